@@ -2,17 +2,16 @@ package svm
 
 import (
 	"ratline/api"
-	"ratline/val"
+	"ratline/record"
 )
 
 // machine runs a program that stack.Check finds good, and so does not ask whether what an instruction takes is there.
 type machine struct {
 	fns     []api.SFn
-	fuel    int
 	calls   []call
 	values  []*api.Value // of all open calls, each one's locals and behind them its stack; by pointer, since many calls may be open and a value is never changed
 	nothing *api.Value   // what a local holds at first
-	events  []api.Event
+	told    *record.Record
 }
 
 // call is one that is open. Calls are a list of the machine's own, so that as many may be open as there is fuel.
@@ -27,12 +26,12 @@ func (m *machine) run(main int) api.Trace {
 	m.open(main)
 next:
 	if e := m.step(); e != api.ROK {
-		return api.Trace{Events: m.events, E: e}
+		return m.told.Ended(e)
 	}
 	if len(m.calls) > 0 {
 		goto next
 	}
-	return api.Trace{Events: m.events, V: val.Copy(*m.pop())}
+	return m.told.Returned(*m.pop())
 }
 
 // open opens a call of fn. Its operands, the topmost values, are its first locals where they stand.

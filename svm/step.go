@@ -3,6 +3,7 @@ package svm
 import (
 	"ratline/api"
 	"ratline/ops"
+	"ratline/record"
 	"ratline/val"
 )
 
@@ -33,9 +34,9 @@ func (m *machine) step() api.Run {
 	case api.SRet:
 		m.shut()
 	case api.STick:
-		return m.tell(api.Event{Kind: api.ETick, N: i.A})
+		return m.told.Tick(i.A)
 	case api.SOut:
-		return m.tell(api.Event{Kind: api.EOut, V: *m.pop()})
+		return m.told.Out(*m.pop())
 	default:
 		return m.work(i)
 	}
@@ -51,7 +52,7 @@ func (m *machine) work(i api.SIns) api.Run {
 	case api.SUn:
 		return m.keep(ops.Unary(i.A, *m.pop()))
 	}
-	return m.keep(listOf(m.take(i.A)))
+	return m.keep(record.List(m.take(i.A)))
 }
 
 // keep pushes a value that has just been made, if it has been.
@@ -60,28 +61,4 @@ func (m *machine) keep(v api.Value, e api.Run) api.Run {
 		m.push(&v)
 	}
 	return e
-}
-
-// listOf is a list of those values; RBig, if it would be too great or too deep, which is all that val can have against it.
-func listOf(taken []*api.Value) (api.Value, api.Run) {
-	l := make([]api.Value, len(taken))
-	for i, v := range taken {
-		l[i] = *v
-	}
-	v := val.List(l)
-	if v.Kind != api.VList {
-		return val.Nil(), api.RBig
-	}
-	return v, api.ROK
-}
-
-// tell tells an event, if there is fuel for it. What it tells is a copy: else two events might share a list.
-func (m *machine) tell(e api.Event) api.Run {
-	if m.fuel < 1 {
-		return api.RFuel
-	}
-	m.fuel--
-	e.V = val.Copy(e.V)
-	m.events = append(m.events, e)
-	return api.ROK
 }
