@@ -9,6 +9,7 @@ import (
 	"testing"
 
 	"ratline/api"
+	"ratline/likely"
 	"ratline/sim"
 	"ratline/val"
 )
@@ -126,7 +127,7 @@ func TestNothingIsChanged(t *testing.T) {
 		t.Error("what was handed in is changed")
 	}
 	for seed := range int64(3000) {
-		p, q := likelyProgram(rand.New(rand.NewSource(seed)), 9), likelyProgram(rand.New(rand.NewSource(seed)), 9)
+		p, q := likely.Registers(rand.New(rand.NewSource(seed)).Intn, 9), likely.Registers(rand.New(rand.NewSource(seed)).Intn, 9)
 		callAll(p, 20)
 		if !reflect.DeepEqual(everything(p), everything(q)) {
 			t.Fatal("what was handed in is changed")
@@ -248,7 +249,7 @@ func TestUnusedFieldsAreNotTold(t *testing.T) {
 func TestTheSameIsTold(t *testing.T) {
 	r := rand.New(rand.NewSource(124))
 	for range 400 {
-		p, fuel := likelyProgram(r, 9), r.Intn(60)
+		p, fuel := likely.Registers(r.Intn, 9), r.Intn(60)
 		want, e := sim.Run(p, fuel)
 		var all sync.WaitGroup
 		for range 4 {

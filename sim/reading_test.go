@@ -2,7 +2,6 @@ package sim_test
 
 import (
 	"fmt"
-	"math"
 	"math/rand"
 	"reflect"
 	"slices"
@@ -10,6 +9,7 @@ import (
 	"testing"
 
 	"ratline/api"
+	"ratline/likely"
 	"ratline/ops"
 	"ratline/sim"
 	"ratline/val"
@@ -404,88 +404,11 @@ func TestAllShortCodes(t *testing.T) {
 	}
 }
 
-// likelyIns is an Ins that f may have. Values are of the same kind more often than not, so that runs go on for a while.
-func likelyIns(r *rand.Rand, p api.RProg, f api.RFn) []api.RIns {
-	reg := func() int { return r.Intn(f.Regs) }
-	regs := func(n int) []int {
-		var l []int
-		for range n {
-			l = append(l, reg())
-		}
-		return l
-	}
-	consts := values(val.Int(1), val.Int(int64(r.Intn(5))), val.Int(2), val.Int(0), val.Nil(), val.Text("ab"), val.List(values(val.Int(1))), val.Cx(1i), text(300+r.Intn(400)))
-	to := r.Intn(len(p.Fns))
-	switch k := r.Intn(22); {
-	case k < 5:
-		return code(konst(reg(), consts[r.Intn(len(consts))]))
-	case k < 8:
-		return code(mov(reg(), reg()))
-	case k < 11:
-		return code(bin([]int{1, 1, 1, 6, 7, 2, api.OGet, 1 + r.Intn(14)}[r.Intn(8)], reg(), reg(), reg()))
-	case k < 13:
-		return code(un([]int{16, 16, 15 + r.Intn(6)}[r.Intn(3)], reg(), reg()))
-	case k < 15:
-		return code(tick(1+r.Intn(4095)), call(to, reg(), regs(p.Fns[to].Params)...))
-	case k < 18:
-		return code(out(reg()))
-	case k < 20:
-		return code(tick(1 + r.Intn(9)))
-	}
-	return code(list(reg(), regs(r.Intn(5))...))
-}
-
-// likelyFn fills f with blocks. An end leads back mostly from a block that has an RTick.
-func likelyFn(r *rand.Rand, p api.RProg, f *api.RFn, most int) {
-	f.Blocks = make([]api.RBlock, 1+r.Intn(most))
-	for n := range f.Blocks {
-		b := &f.Blocks[n]
-		for range r.Intn(5) {
-			b.Ins = append(b.Ins, likelyIns(r, p, *f)...)
-		}
-		for k := range b.Ins {
-			b.Ins[k].Deep = max(0, r.Intn(12)-8)
-		}
-		ticked := slices.ContainsFunc(b.Ins, func(i api.RIns) bool { return i.Op == api.RTick })
-		to := func() int {
-			if ticked && r.Intn(3) == 0 || r.Intn(40) == 0 {
-				return r.Intn(len(f.Blocks))
-			}
-			return min(n+1+r.Intn(3), len(f.Blocks)-1)
-		}
-		switch k := r.Intn(9); {
-		case k == 0 || n == len(f.Blocks)-1 && !ticked:
-			b.Term = ret(r.Intn(f.Regs))
-		case k < 4:
-			b.Term = jump(to())
-		default:
-			b.Term = br(r.Intn(f.Regs), to(), to())
-		}
-	}
-}
-
-// likelyProgram is a program of one to four functions that is sound more often than not.
-func likelyProgram(r *rand.Rand, most int) api.RProg {
-	p := api.RProg{Fns: make([]api.RFn, 1+r.Intn(4))}
-	p.Main = r.Intn(len(p.Fns))
-	for n := range p.Fns {
-		params := r.Intn(4)
-		if n == p.Main {
-			params = 0
-		}
-		p.Fns[n] = api.RFn{Name: fmt.Sprint("f", n), Params: params, Regs: params + 1 + r.Intn(4)}
-	}
-	for n := range p.Fns {
-		likelyFn(r, p, &p.Fns[n], most)
-	}
-	return p
-}
-
 func TestLikelyPrograms(t *testing.T) {
 	r := rand.New(rand.NewSource(12))
 	var n ends
 	for range 20000 {
-		p := likelyProgram(r, 9)
+		p := likely.Registers(r.Intn, 9)
 		x, e := expectRead(t, p, 60)
 		n.add(x, e)
 		fuel := r.Intn(12) - 1
@@ -505,30 +428,8 @@ func TestLikelyPrograms(t *testing.T) {
 func TestGreatLikelyPrograms(t *testing.T) {
 	r := rand.New(rand.NewSource(122))
 	for range 200 {
-		expectRead(t, likelyProgram(r, 120), 300)
+		expectRead(t, likely.Registers(r.Intn, 120), 300)
 	}
-}
-
-// blemish changes one thing of a program.
-func blemish(r *rand.Rand, p *api.RProg) {
-	f := &p.Fns[r.Intn(len(p.Fns))]
-	b := &f.Blocks[r.Intn(len(f.Blocks))]
-	far := []int{-1, 0, 1, 2, 3, 4, 5, 6, 7, 8, 9, 14, 15, 16, 20, 21, 64, 65, 200, 201, 4095, 4096, f.Regs, f.Regs - 1, len(f.Blocks), len(f.Blocks) - 1, len(p.Fns), math.MaxInt, math.MinInt}
-	l := []*int{&b.Term.Kind, &b.Term.A, &b.Term.To, &b.Term.To, &b.Term.Else, &f.Params, &f.Regs, &p.Main}
-	if len(b.Ins) > 0 {
-		i := &b.Ins[r.Intn(len(b.Ins))]
-		l = append(l, &i.Op, &i.D, &i.A, &i.B, &i.N, &i.Deep, &i.K.Kind)
-		if r.Intn(9) == 0 {
-			i.L = append(slices.Clone(i.L), r.Intn(f.Regs))
-		}
-		if len(i.L) > 0 {
-			l = append(l, &i.L[r.Intn(len(i.L))])
-		}
-		if k := r.Intn(len(b.Ins)); r.Intn(6) == 0 {
-			b.Ins = slices.Delete(b.Ins, k, k+1)
-		}
-	}
-	*l[r.Intn(len(l))] = far[r.Intn(len(far))]
 }
 
 // One thing of a program is changed: it is refused as Check says, or run as it then is.
@@ -536,8 +437,8 @@ func TestBlemishedPrograms(t *testing.T) {
 	r := rand.New(rand.NewSource(120))
 	var n ends
 	for range 40000 {
-		p := likelyProgram(r, 6)
-		blemish(r, &p)
+		p := likely.Registers(r.Intn, 6)
+		likely.Blemish(r.Intn, &p)
 		n.add(expectRead(t, p, 9))
 	}
 	if n.errno[api.OK] < 2000 || n.errno[api.ErrForm] < 5000 || n.errno[api.ErrTick] < 1000 {

@@ -9,6 +9,7 @@ import (
 	"ratline/api"
 	"ratline/gen"
 	"ratline/lift"
+	"ratline/likely"
 	"ratline/sim"
 	"ratline/svm"
 )
@@ -114,92 +115,11 @@ func TestGreatSources(t *testing.T) {
 	}
 }
 
-// writer writes any programs. Values are of the same kind more often than not, so that runs go on for a while.
-type writer struct {
-	*rand.Rand
-	names []string
-	all   int
-}
-
-func (w *writer) pick(l ...string) string { return l[w.Intn(len(l))] }
-
-func (w *writer) leaf() string {
-	if len(w.names) > 0 && w.Intn(2) == 0 {
-		return w.pick(w.names...)
-	}
-	return w.pick("0", "1", "2", "3", "7", "1", "2", "3i", `"ab"`, "[]", "nil")
-}
-
-func (w *writer) expr(deep int) string {
-	if deep == 0 || w.Intn(5) == 0 {
-		return w.leaf()
-	}
-	e := func() string { return w.expr(deep - 1) }
-	switch w.Intn(12) {
-	case 0:
-		return "[" + e() + ", " + e() + "]"
-	case 1:
-		return "(" + e() + w.pick(" && ", " || ") + e() + ")"
-	case 2:
-		return w.pick("!", "-") + w.leaf()
-	case 3, 4:
-		return w.pick("f0()", "f1("+e()+")", "f2("+e()+", "+e()+")", "f3("+e()+", "+e()+", "+e()+")", "main()")
-	case 5:
-		return w.pick("len(\"abc\" + "+e()+")", "push([1], "+e()+")", "[1, "+e()+"][1]", "[1]["+e()+"]")
-	}
-	return "(" + e() + w.pick(" + ", " == ", " != ", " == ", " < ", " - ", " / ") + e() + ")"
-}
-
-func (w *writer) block(deep int, loop bool) string {
-	s, seen := "{ ", len(w.names)
-	for range 1 + w.Intn(4) {
-		s += w.statement(deep, loop) + " "
-	}
-	w.names = w.names[:seen]
-	return s + "}"
-}
-
-func (w *writer) statement(deep int, loop bool) string {
-	switch k := w.Intn(10 + min(4, 4*deep)); {
-	case k < 2 && w.all < 50:
-		e := w.expr(2)
-		w.all++
-		w.names = append(w.names, fmt.Sprint("v", w.all))
-		return "let " + w.names[len(w.names)-1] + " = " + e + ";"
-	case k < 5 && len(w.names) > 0:
-		return w.pick(w.names...) + " = " + w.expr(2) + ";"
-	case k == 5 && loop:
-		return w.pick("break;", "continue;")
-	case k == 6 && w.Intn(2) == 0:
-		return w.pick("return;", "return "+w.expr(2)+";", w.expr(2)+";")
-	case k < 10:
-		return "print " + w.expr(2) + ";"
-	case k == 10:
-		return "if " + w.expr(2) + " " + w.block(deep-1, loop)
-	case k == 11:
-		return "if " + w.expr(2) + " " + w.block(deep-1, loop) + " else " + w.block(deep-1, loop)
-	}
-	return "while " + w.expr(1) + " " + w.block(deep-1, true)
-}
-
-func (w *writer) program() string {
-	var l []string
-	for i, name := range []string{"f0", "f1", "f2", "f3", "main"} {
-		w.names, w.all = []string{"a", "b", "c"}[:i%4], 0
-		head := "fn " + name + "(" + strings.Join(w.names, ", ") + ") "
-		w.names = append([]string(nil), w.names...)
-		l = append(l, head+w.block(3, false))
-	}
-	w.Shuffle(len(l), func(i, k int) { l[i], l[k] = l[k], l[i] })
-	return strings.Join(l, " ")
-}
-
 // Any programs of texts.
 func TestAnySources(t *testing.T) {
 	ends := map[api.Run]int{}
 	for seed := range 3000 {
-		w := &writer{Rand: rand.New(rand.NewSource(int64(seed)))}
-		p, q, ok := lifted(t, w.program())
+		p, q, ok := lifted(t, likely.Source(rand.New(rand.NewSource(int64(seed))).Intn))
 		if !ok {
 			continue
 		}

@@ -1,13 +1,12 @@
 package svm_test
 
 import (
-	"fmt"
 	"math/rand"
-	"strings"
 	"testing"
 
 	"ratline/api"
 	"ratline/gen"
+	"ratline/likely"
 	"ratline/ops"
 	"ratline/parse"
 	"ratline/scope"
@@ -208,97 +207,10 @@ func expectTree(t *testing.T, s string, fuel int) api.Trace {
 	return x
 }
 
-// writer writes any programs. Values are of the same kind more often than not, so that runs go on for a while.
-type writer struct {
-	*rand.Rand
-	names []string
-	all   int
-}
-
-func (w *writer) pick(l ...string) string { return l[w.Intn(len(l))] }
-
-func (w *writer) leaf() string {
-	if len(w.names) > 0 && w.Intn(2) == 0 {
-		return w.pick(w.names...)
-	}
-	return w.pick("0", "1", "2", "3", "7", "1", "2", "3i", `"ab"`, `""`, "[]", "nil", "9223372036854775807")
-}
-
-func (w *writer) expr(deep int) string {
-	if deep == 0 || w.Intn(5) == 0 {
-		return w.leaf()
-	}
-	e := func() string { return w.expr(deep - 1) }
-	switch w.Intn(14) {
-	case 0:
-		return "[" + e() + ", " + e() + "]"
-	case 1:
-		return "(" + e() + " && " + e() + ")"
-	case 2:
-		return "(" + e() + " || " + e() + ")"
-	case 3:
-		return w.pick("!", "-") + w.leaf()
-	case 4:
-		return w.pick("f0()", "f1("+e()+")", "f2("+e()+", "+e()+")", "f3("+e()+", "+e()+", "+e()+")", "main()")
-	case 5:
-		return w.pick("len(\"abc\" + "+e()+")", "push([1], "+e()+")", "cx(1, 2)", "re(2i)", "im("+e()+")", "conj("+e()+")", "push("+e()+", 1)")
-	case 6:
-		return w.pick("[1, \"x\", "+e()+"][2]", "\"abc\"["+e()+"]", e()+"[0]")
-	case 7:
-		return "(" + e() + w.pick(" - ", " * ", " / ", " % ", " > ", " <= ", " >= ") + e() + ")"
-	}
-	return "(" + e() + w.pick(" + ", " == ", " != ", " == ", " < ") + e() + ")"
-}
-
-func (w *writer) block(deep int, loop bool) string {
-	s, seen := "{ ", len(w.names)
-	for range 1 + w.Intn(4) {
-		s += w.statement(deep, loop) + " "
-	}
-	w.names = w.names[:seen]
-	return s + "}"
-}
-
-func (w *writer) statement(deep int, loop bool) string {
-	switch k := w.Intn(10 + min(4, 4*deep)); {
-	case k < 2 && w.all < 50:
-		e := w.expr(2)
-		w.all++
-		w.names = append(w.names, fmt.Sprint("v", w.all))
-		return "let " + w.names[len(w.names)-1] + " = " + e + ";"
-	case k < 5 && len(w.names) > 0:
-		return w.pick(w.names...) + " = " + w.expr(2) + ";"
-	case k == 5 && loop:
-		return w.pick("break;", "continue;")
-	case k == 6 && w.Intn(2) == 0:
-		return w.pick("return;", "return "+w.expr(2)+";", w.expr(2)+";")
-	case k < 10:
-		return "print " + w.expr(2) + ";"
-	case k == 10:
-		return "if " + w.expr(2) + " " + w.block(deep-1, loop)
-	case k == 11:
-		return "if " + w.expr(2) + " " + w.block(deep-1, loop) + " else " + w.block(deep-1, loop)
-	}
-	return "while " + w.expr(1) + " " + w.block(deep-1, true)
-}
-
-func (w *writer) program() string {
-	var l []string
-	for i, name := range []string{"f0", "f1", "f2", "f3", "main"} {
-		w.names, w.all = []string{"a", "b", "c"}[:i%4], 0
-		head := "fn " + name + "(" + strings.Join(w.names, ", ") + ") "
-		w.names = append([]string(nil), w.names...)
-		l = append(l, head+w.block(3, false))
-	}
-	w.Shuffle(len(l), func(i, k int) { l[i], l[k] = l[k], l[i] })
-	return strings.Join(l, " ")
-}
-
 func TestAnySources(t *testing.T) {
 	var n ends
 	for i := range 1500 {
-		w := &writer{Rand: rand.New(rand.NewSource(int64(i)))}
-		s := w.program()
+		s := likely.Source(rand.New(rand.NewSource(int64(i))).Intn)
 		if _, _, e := gen.Source(s); e == api.ErrLong || e == api.ErrBig {
 			continue
 		}

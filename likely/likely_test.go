@@ -1,0 +1,83 @@
+package likely_test
+
+import (
+	"math/rand"
+	"reflect"
+	"testing"
+
+	"ratline/api"
+	"ratline/gen"
+	"ratline/likely"
+	"ratline/sim"
+	"ratline/svm"
+)
+
+func choose(seed int) likely.Choice { return rand.New(rand.NewSource(int64(seed))).Intn }
+
+// A text that is not too long or too great is a program, and runs of such texts end in all ways.
+func TestSource(t *testing.T) {
+	good, ends := 0, map[api.Run]int{}
+	for seed := range 600 {
+		s := likely.Source(choose(seed))
+		p, at, e := gen.Source(s)
+		if e == api.ErrLong || e == api.ErrBig {
+			continue
+		}
+		if e != api.OK {
+			t.Fatal(s, at, e)
+		}
+		good++
+		x, _ := svm.Run(p, 60)
+		ends[x.E]++
+	}
+	if good < 400 || ends[api.ROK] < 50 || ends[api.RKind] < 50 || ends[api.RFuel] < 50 || ends[api.RIndex] == 0 || ends[api.RZero] == 0 {
+		t.Error(good, ends)
+	}
+}
+
+// Register code has a good form, and mostly RTicks enough.
+func TestRegisters(t *testing.T) {
+	checked, ends, blocks := map[api.Errno]int{}, map[api.Run]int{}, map[int]int{}
+	for seed := range 3000 {
+		p := likely.Registers(choose(seed), 6)
+		e := sim.Check(p)
+		checked[e]++
+		for _, f := range p.Fns {
+			blocks[len(f.Blocks)]++
+		}
+		if e == api.OK {
+			x, _ := sim.Run(p, 60)
+			ends[x.E]++
+		}
+	}
+	if checked[api.OK] < 2000 || checked[api.ErrTick] < 100 || checked[api.OK]+checked[api.ErrTick] != 3000 || len(blocks) != 6 || blocks[1] == 0 || blocks[6] == 0 {
+		t.Error(checked, blocks)
+	}
+	if ends[api.ROK] < 300 || ends[api.RKind] < 300 || ends[api.RFuel] < 100 || ends[api.RBig] == 0 {
+		t.Error(ends)
+	}
+}
+
+func TestBlemish(t *testing.T) {
+	checked, same := map[api.Errno]int{}, 0
+	for seed := range 3000 {
+		p, q := likely.Registers(choose(seed), 6), likely.Registers(choose(seed), 6)
+		likely.Blemish(choose(seed), &q)
+		checked[sim.Check(q)]++
+		if reflect.DeepEqual(p, q) {
+			same++
+		}
+	}
+	if checked[api.OK] < 200 || checked[api.ErrTick] < 50 || checked[api.ErrForm] < 1500 || same > 600 {
+		t.Error(checked, same)
+	}
+}
+
+// The same choices make the same.
+func TestSameChoices(t *testing.T) {
+	for seed := range 100 {
+		if likely.Source(choose(seed)) != likely.Source(choose(seed)) || !reflect.DeepEqual(likely.Registers(choose(seed), 9), likely.Registers(choose(seed), 9)) {
+			t.Error(seed)
+		}
+	}
+}
