@@ -11,35 +11,18 @@ import (
 
 	"ratline/api"
 	"ratline/fold"
+	"ratline/hand"
 	"ratline/ops"
 	"ratline/val"
 )
 
-func konst(d int, v api.Value) api.RIns { return api.RIns{Op: api.RConst, D: d, K: v} }
-func number(d int, n int64) api.RIns    { return konst(d, val.Int(n)) }
-func mov(d, a int) api.RIns             { return api.RIns{Op: api.RMov, D: d, A: a} }
-func bin(op, d, a, b int) api.RIns      { return api.RIns{Op: api.RBin, N: op, D: d, A: a, B: b} }
-func un(op, d, a int) api.RIns          { return api.RIns{Op: api.RUn, N: op, D: d, A: a} }
-func call(fn, d int, l ...int) api.RIns { return api.RIns{Op: api.RCall, N: fn, D: d, L: l} }
-func out(a int) api.RIns                { return api.RIns{Op: api.ROut, A: a} }
-func tick(n int) api.RIns               { return api.RIns{Op: api.RTick, N: n} }
-func list(d int, l ...int) api.RIns     { return api.RIns{Op: api.RList, D: d, L: l} }
-func jump(to int) api.RTerm             { return api.RTerm{Kind: api.TJump, To: to} }
-func br(a, to, other int) api.RTerm     { return api.RTerm{Kind: api.TBr, A: a, To: to, Else: other} }
-func ret(a int) api.RTerm               { return api.RTerm{Kind: api.TRet, A: a} }
-func code(l ...api.RIns) []api.RIns     { return l }
+var (
+	konst, mov, bin, un, call, list = hand.Const, hand.Mov, hand.Bin, hand.Un, hand.Call, hand.List
+	out, tick, jump, br, ret        = hand.Out, hand.Tick, hand.Jump, hand.Br, hand.Ret
+	code, block, fn, deep, plain    = hand.Code, hand.Block, hand.Fn, hand.Deep, hand.Plain
+)
 
-func block(t api.RTerm, l ...api.RIns) api.RBlock { return api.RBlock{Ins: l, Term: t} }
-
-func fn(params, regs int, l ...api.RBlock) api.RFn {
-	return api.RFn{Name: "f", Params: params, Regs: regs, Blocks: l}
-}
-
-// deep is i with another Deep.
-func deep(n int, i api.RIns) api.RIns {
-	i.Deep = n
-	return i
-}
+func number(d int, n int64) api.RIns { return konst(d, val.Int(n)) }
 
 // short is what is told of a thing that may be great.
 func short(x any) string {

@@ -37,19 +37,6 @@ func toldStates(t *testing.T, l []fold.State, regs int) string {
 	return strings.Join(words, " ")
 }
 
-// plain is f with nil for each empty list.
-func plain(f api.RFn) api.RFn {
-	f.Blocks = append([]api.RBlock(nil), f.Blocks...)
-	for n := range f.Blocks {
-		b := &f.Blocks[n]
-		b.Ins = append([]api.RIns(nil), b.Ins...)
-		for k := range b.Ins {
-			b.Ins[k].L = append([]int(nil), b.Ins[k].L...)
-		}
-	}
-	return f
-}
-
 func expect(t *testing.T, f api.RFn, states string, want api.RFn) {
 	t.Helper()
 	if s := toldStates(t, fold.Analyse(f), f.Regs); s != states {

@@ -11,6 +11,7 @@ import (
 
 	"ratline/api"
 	"ratline/fold"
+	"ratline/hand"
 	"ratline/likely"
 	"ratline/sim"
 	"ratline/val"
@@ -224,37 +225,10 @@ func TestTooLong(t *testing.T) {
 
 // Rules 3 and 8: what is handed in is not changed, nor kept; what is answered is new memory; the same call answers the same.
 
-// withRoom is a list with room behind it, which holds something.
-func withRoom[T any](l []T, spare ...T) []T {
-	return append(slices.Clone(l), spare...)[:len(l)]
-}
-
-func fullValue(v api.Value) api.Value {
-	v.L = withRoom(v.L, val.Text("spare"))
-	for n := range v.L {
-		v.L[n] = fullValue(v.L[n])
-	}
-	return v
-}
-
-// full is f with room behind all of its lists.
-func full(f api.RFn) api.RFn {
-	f.Blocks = withRoom(f.Blocks, block(jump(9)), block(ret(3)))
-	for n := range f.Blocks {
-		b := &f.Blocks[n]
-		b.Ins = withRoom(b.Ins, out(5), tick(9))
-		for k := range b.Ins {
-			b.Ins[k].L = withRoom(b.Ins[k].L, 77, 3, 78)
-			b.Ins[k].K = fullValue(b.Ins[k].K)
-		}
-	}
-	return f
-}
-
 func fullCells(c []fold.Cell) []fold.Cell {
-	c = withRoom(c, always(val.Text("spare")))
+	c = hand.WithRoom(c, always(val.Text("spare")))
 	for n := range c {
-		c[n].V = fullValue(c[n].V)
+		c[n].V = hand.FullValue(c[n].V)
 	}
 	return c
 }
@@ -349,19 +323,19 @@ func TestNothingIsChanged(t *testing.T) {
 		t.Helper()
 		fold.Analyse(f)
 		fold.Run(f)
-		if !reflect.DeepEqual(noted(func(m *memory) { m.fn(f) }).all, noted(func(m *memory) { m.fn(g) }).all) {
+		if !reflect.DeepEqual(hand.Everything(f), hand.Everything(g)) {
 			t.Fatal("what was handed in is changed")
 		}
 	}
-	expect(full(some()), full(some()))
+	expect(hand.Full(some()), hand.Full(some()))
 	for seed := range int64(1500) {
 		p, q := likely.Registers(rand.New(rand.NewSource(seed)).Intn, 7), likely.Registers(rand.New(rand.NewSource(seed)).Intn, 7)
 		for n := range p.Fns {
-			expect(full(p.Fns[n]), full(q.Fns[n]))
+			expect(hand.Full(p.Fns[n]), hand.Full(q.Fns[n]))
 		}
 	}
 	mine := func() ([]fold.Cell, api.RFn) {
-		return fullCells(fold.Analyse(some())[2].Cells), full(some())
+		return fullCells(fold.Analyse(some())[2].Cells), hand.Full(some())
 	}
 	for n, b := range some().Blocks {
 		for k := range b.Ins {
@@ -382,7 +356,7 @@ func TestNothingIsChanged(t *testing.T) {
 
 // No two lists of answers share memory, spare room too, and none shares any with what was handed in; what is written into an answer is seen nowhere.
 func TestAnswersAreNewMemory(t *testing.T) {
-	f, c := full(some()), fullCells(fold.Analyse(some())[2].Cells)
+	f, c := hand.Full(some()), fullCells(fold.Analyse(some())[2].Cells)
 	m := noted(func(m *memory) {
 		m.fn(f)
 		m.cells(c)
@@ -401,7 +375,7 @@ func TestAnswersAreNewMemory(t *testing.T) {
 	if len(m.places) < 1000 {
 		t.Error(len(m.places))
 	}
-	want := noted(func(m *memory) { m.answers(full(some())) }).all
+	want := noted(func(m *memory) { m.answers(hand.Full(some())) }).all
 	l, g := fold.Analyse(f), fold.Run(f)
 	for n := range l {
 		clear(l[n].Cells[:cap(l[n].Cells)])
@@ -423,7 +397,7 @@ func TestTheSameIsAnswered(t *testing.T) {
 			all.Go(func() {
 				g := f
 				if n%2 == 1 {
-					g = full(f)
+					g = hand.Full(f)
 				}
 				if s := fmt.Sprint(fold.Analyse(g), fold.Run(g)); s != want {
 					t.Error(short(f), short(s), short(want))

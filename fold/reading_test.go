@@ -1,7 +1,6 @@
 package fold_test
 
 import (
-	"math"
 	"math/rand"
 	"reflect"
 	"slices"
@@ -429,42 +428,13 @@ func TestBlemishedFunctions(t *testing.T) {
 	}
 }
 
-// bytesFn takes any bytes as a function.
-func bytesFn(b []byte) api.RFn {
-	take := func() int {
-		if len(b) == 0 {
-			return 0
-		}
-		n := int(b[0])
-		b = b[1:]
-		if n >= 250 { // the greatest bytes are numbers far away
-			return []int{-1, -65, 1 << 40, math.MinInt, math.MaxInt, 256}[n-250]
-		}
-		return n
-	}
-	values := distinct()
-	f := api.RFn{Params: take(), Regs: take()}
-	for range take() & 7 {
-		k := api.RBlock{Term: api.RTerm{Kind: take(), A: take(), To: take(), Else: take()}}
-		for range take() & 7 {
-			i := api.RIns{Op: take(), D: take(), A: take(), B: take(), N: take(), Deep: take(), K: values[uint(take())%uint(len(values))]}
-			for range take() & 3 {
-				i.L = append(i.L, take())
-			}
-			k.Ins = append(k.Ins, i)
-		}
-		f.Blocks = append(f.Blocks, k)
-	}
-	return f
-}
-
 // seeds are bytes of functions: the chapter's example, a loop, a known branch and a list.
 func seeds() [][]byte {
 	return [][]byte{
 		{},
-		{0, 1, 1, 3, 0, 0, 0, 2, 1, 0, 0, 0, 0, 0, 2, 0, 3, 0, 0, 0, 1, 0, 0, 0},
-		{1, 3, 2, 2, 0, 0, 1, 3, 7, 0, 0, 0, 1, 0, 0, 0, 2, 1, 2, 0, 0, 0, 0, 0, 4, 2, 1, 0, 16, 3, 0, 0, 3, 2, 0, 0, 0},
-		{0, 4, 3, 2, 1, 1, 2, 3, 1, 0, 0, 0, 0, 0, 12, 0, 8, 1, 0, 0, 0, 1, 0, 2, 0, 2, 4, 2, 1, 0, 17, 0, 0, 0, 3, 2, 0, 0, 1, 3, 3, 0, 2, 1, 0, 0, 0, 3, 3, 0, 0, 0},
+		{0, 1, 1, 3, 0, 0, 0, 2, 1, 0, 0, 0, 0, 0, 0, 0, 2, 0, 3, 0, 0, 0, 1, 0, 0, 0, 0, 0},
+		{1, 3, 2, 2, 0, 0, 1, 3, 7, 0, 0, 0, 1, 0, 0, 0, 0, 0, 2, 1, 2, 0, 0, 0, 0, 0, 0, 0, 4, 2, 1, 0, 16, 0, 0, 0, 0, 0, 3, 2, 0, 0, 1, 2, 0, 2, 0, 0, 0, 0, 0, 0, 0},
+		{0, 4, 3, 2, 1, 1, 2, 3, 1, 0, 0, 0, 0, 0, 0, 0, 5, 0, 8, 1, 0, 0, 0, 0, 0, 0, 0, 2, 0, 0, 4, 2, 1, 0, 17, 0, 0, 0, 0, 0, 3, 2, 0, 0, 1, 3, 3, 2, 2, 3, 0, 0, 0, 0, 0, 3, 3, 0, 0, 0},
 	}
 }
 
@@ -481,7 +451,7 @@ func TestAnyBytes(t *testing.T) {
 				b[r.Intn(len(b))] = []byte{byte(r.Intn(9)), byte(r.Int())}[r.Intn(2)]
 			}
 		}
-		n.expectRead(t, bytesFn(b))
+		n.expectRead(t, likely.Fn(b))
 	}
 	if n.reached < 6000 || n.known < 8000 || n.folded < 2000 || n.jumps < 800 {
 		t.Error(n)
@@ -493,6 +463,6 @@ func FuzzFold(f *testing.F) {
 		f.Add(b)
 	}
 	f.Fuzz(func(t *testing.T, b []byte) {
-		new(counts).expectRead(t, bytesFn(b))
+		new(counts).expectRead(t, likely.Fn(b))
 	})
 }

@@ -8,8 +8,7 @@ import (
 
 	"ratline/api"
 	"ratline/fold"
-	"ratline/gen"
-	"ratline/lift"
+	"ratline/hand"
 	"ratline/likely"
 	"ratline/sim"
 	"ratline/val"
@@ -20,15 +19,11 @@ import (
 // lifted is a text as register code; false, if it is too long or too great.
 func lifted(t *testing.T, s string) (api.RProg, bool) {
 	t.Helper()
-	p, at, e := gen.Source(s)
-	if e == api.ErrLong || e == api.ErrBig {
-		return api.RProg{}, false
+	p, e := hand.Lifted(s)
+	if e != api.OK && e != api.ErrLong && e != api.ErrBig {
+		t.Fatal(s, e)
 	}
-	q, wrong := lift.Program(p)
-	if e != api.OK || wrong != api.OK {
-		t.Fatal(s, at, e, wrong)
-	}
-	return q, true
+	return p, e == api.OK
 }
 
 // leftOps are the ops and lists of f that are not folded, and the ends that are branches, block by block; . of one that has none of them, - of one that is not Reached.
@@ -93,12 +88,6 @@ func TestSources(t *testing.T) {
 
 // Promise 14.3: what is folded tells the same.
 
-// alike tells whether two runs tell the same.
-func alike(a, b api.Trace) bool {
-	same := func(x, y api.Event) bool { return x.Kind == y.Kind && x.N == y.N && val.Same(x.V, y.V) }
-	return slices.EqualFunc(a.Events, b.Events, same) && val.Same(a.V, b.V) && a.E == b.E
-}
-
 // meant counts what was tried of programs.
 type meant struct{ programs, runs, ends, errs, fuel int }
 
@@ -128,7 +117,7 @@ func (n *meant) expectMeant(t *testing.T, p api.RProg) {
 			n.errs++
 		}
 		for k, q := range others {
-			if x, e := sim.Run(q, fuel); e != api.OK || !alike(x, want) {
+			if x, e := sim.Run(q, fuel); e != api.OK || !hand.Alike(x, want) {
 				t.Fatalf("%s told %s, %s, %d, tells %s, %d", short(p), short(want), short(q), k, short(x), e)
 			}
 		}

@@ -1,6 +1,7 @@
 package likely_test
 
 import (
+	"math"
 	"math/rand"
 	"reflect"
 	"testing"
@@ -10,6 +11,7 @@ import (
 	"ratline/likely"
 	"ratline/sim"
 	"ratline/svm"
+	"ratline/val"
 )
 
 func choose(seed int) likely.Choice { return rand.New(rand.NewSource(int64(seed))).Intn }
@@ -79,5 +81,20 @@ func TestSameChoices(t *testing.T) {
 		if likely.Source(choose(seed)) != likely.Source(choose(seed)) || !reflect.DeepEqual(likely.Registers(choose(seed), 9), likely.Registers(choose(seed), 9)) {
 			t.Error(seed)
 		}
+	}
+}
+
+// Bytes are read in order, and those that are missing are noughts.
+func TestFn(t *testing.T) {
+	if f := likely.Fn(nil); !reflect.DeepEqual(f, api.RFn{}) {
+		t.Error(f)
+	}
+	f := likely.Fn([]byte{1, 3, 2, 2, 5, 250, 254, 9, 8, 1, 2, 3, 4, 5, 0, 0, 0, 6, 7, 8, 3, 2})
+	want := api.RFn{Params: 1, Regs: 3, Blocks: []api.RBlock{
+		{Ins: []api.RIns{{Op: 8, D: 1, A: 2, B: 3, N: 4, Deep: 5, K: val.Int(1), L: []int{7, 8}}}, Term: api.RTerm{Kind: 2, A: 5, To: -1, Else: math.MaxInt}},
+		{Term: api.RTerm{Kind: 3, A: 2}},
+	}}
+	if !reflect.DeepEqual(f, want) {
+		t.Error(f, want)
 	}
 }

@@ -7,27 +7,21 @@ import (
 	"testing"
 
 	"ratline/api"
+	"ratline/hand"
 	"ratline/live"
 	"ratline/ops"
 	"ratline/val"
 )
 
-func konst(d int) api.RIns              { return api.RIns{Op: api.RConst, D: d, K: val.Int(7)} }
-func mov(d, a int) api.RIns             { return api.RIns{Op: api.RMov, D: d, A: a} }
-func bin(op, d, a, b int) api.RIns      { return api.RIns{Op: api.RBin, N: op, D: d, A: a, B: b} }
-func un(op, d, a int) api.RIns          { return api.RIns{Op: api.RUn, N: op, D: d, A: a} }
-func call(fn, d int, l ...int) api.RIns { return api.RIns{Op: api.RCall, N: fn, D: d, L: l} }
-func out(a int) api.RIns                { return api.RIns{Op: api.ROut, A: a} }
-func tick(n int) api.RIns               { return api.RIns{Op: api.RTick, N: n} }
-func list(d int, l ...int) api.RIns     { return api.RIns{Op: api.RList, D: d, L: l} }
-func jump(to int) api.RTerm             { return api.RTerm{Kind: api.TJump, To: to} }
-func br(a, to, other int) api.RTerm     { return api.RTerm{Kind: api.TBr, A: a, To: to, Else: other} }
-func ret(a int) api.RTerm               { return api.RTerm{Kind: api.TRet, A: a} }
-func code(l ...api.RIns) []api.RIns     { return l }
+var (
+	mov, bin, un, call, list = hand.Mov, hand.Bin, hand.Un, hand.Call, hand.List
+	out, tick, jump, br, ret = hand.Out, hand.Tick, hand.Jump, hand.Br, hand.Ret
+	code, block              = hand.Code, hand.Block
+)
 
-func block(t api.RTerm, l ...api.RIns) api.RBlock { return api.RBlock{Ins: l, Term: t} }
+func konst(d int) api.RIns { return hand.Const(d, val.Int(7)) }
 
-func fn(regs int, l ...api.RBlock) api.RFn { return api.RFn{Name: "f", Regs: regs, Blocks: l} }
+func fn(regs int, l ...api.RBlock) api.RFn { return hand.Fn(0, regs, l...) }
 
 // upTo are the numbers from a up to b.
 func upTo(a, b int) []int {

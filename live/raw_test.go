@@ -10,10 +10,10 @@ import (
 	"testing"
 
 	"ratline/api"
+	"ratline/hand"
 	"ratline/likely"
 	"ratline/live"
 	"ratline/sim"
-	"ratline/val"
 )
 
 // Promise 13.3, W9, W10: every call ends and none panics, whatever it is given.
@@ -219,37 +219,6 @@ func TestValuesThatHoldThemselves(t *testing.T) {
 
 // Rules 3 and 8: what is handed in is not changed, nor kept; what is answered is new memory; the same call answers the same.
 
-// withRoom is a list with room behind it, which holds something.
-func withRoom[T any](l []T, spare ...T) []T {
-	return append(slices.Clone(l), spare...)[:len(l)]
-}
-
-// full is f with room behind all of its lists.
-func full(f api.RFn) api.RFn {
-	f.Blocks = withRoom(f.Blocks, block(jump(9)), block(ret(3)))
-	for n := range f.Blocks {
-		b := &f.Blocks[n]
-		b.Ins = withRoom(b.Ins, out(5), tick(9))
-		for k := range b.Ins {
-			b.Ins[k].L = withRoom(b.Ins[k].L, 77, 3, 78)
-			b.Ins[k].K.L = withRoom(b.Ins[k].K.L, val.Text("spare"))
-		}
-	}
-	return f
-}
-
-// everything is all that f has, spare room too.
-func everything(f api.RFn) []any {
-	l := []any{f, f.Blocks[:cap(f.Blocks)]}
-	for _, b := range f.Blocks {
-		l = append(l, b.Ins[:cap(b.Ins)])
-		for _, i := range b.Ins {
-			l = append(l, i.L[:cap(i.L)], i.K.L[:cap(i.K.L)])
-		}
-	}
-	return l
-}
-
 // answers are all lists that all calls answer of f.
 func answers(f api.RFn) [][][]int {
 	all := [][][]int{live.In(f), live.Out(f), live.At(f, -1), live.At(f, len(f.Blocks))}
@@ -269,17 +238,17 @@ func some() api.RFn {
 }
 
 func TestNothingIsChanged(t *testing.T) {
-	p, q := full(some()), full(some())
+	p, q := hand.Full(some()), hand.Full(some())
 	answers(p)
-	if !reflect.DeepEqual(everything(p), everything(q)) {
+	if !reflect.DeepEqual(hand.Everything(p), hand.Everything(q)) {
 		t.Error("what was handed in is changed")
 	}
 	for seed := range int64(2000) {
 		p, q := likely.Registers(rand.New(rand.NewSource(seed)).Intn, 7), likely.Registers(rand.New(rand.NewSource(seed)).Intn, 7)
 		for n := range p.Fns {
-			f, g := full(p.Fns[n]), full(q.Fns[n])
+			f, g := hand.Full(p.Fns[n]), hand.Full(q.Fns[n])
 			answers(f)
-			if !reflect.DeepEqual(everything(f), everything(g)) {
+			if !reflect.DeepEqual(hand.Everything(f), hand.Everything(g)) {
 				t.Fatal("what was handed in is changed")
 			}
 		}
@@ -288,7 +257,7 @@ func TestNothingIsChanged(t *testing.T) {
 
 // No two lists of answers share memory, spare room too, and none shares any with the function.
 func TestAnswersAreNewMemory(t *testing.T) {
-	f := full(some())
+	f := hand.Full(some())
 	to := map[*int]int{}
 	add := func(l []int) {
 		l = l[:cap(l)]
@@ -301,7 +270,7 @@ func TestAnswersAreNewMemory(t *testing.T) {
 			add(i.L)
 		}
 	}
-	before := everything(full(some()))
+	before := hand.Everything(hand.Full(some()))
 	first, second := answers(f), answers(f)
 	for _, l := range append(slices.Clone(first), second...) {
 		for _, x := range l[:cap(l)] {
@@ -323,7 +292,7 @@ func TestAnswersAreNewMemory(t *testing.T) {
 			}
 		}
 	}
-	if !reflect.DeepEqual(everything(f), before) || fmt.Sprint(answers(f)) != fmt.Sprint(second) {
+	if !reflect.DeepEqual(hand.Everything(f), before) || fmt.Sprint(answers(f)) != fmt.Sprint(second) {
 		t.Error("what was answered is kept")
 	}
 }
@@ -339,7 +308,7 @@ func TestTheSameIsTold(t *testing.T) {
 			all.Go(func() {
 				g := f
 				if n%2 == 1 {
-					g = full(f)
+					g = hand.Full(f)
 				}
 				if s := fmt.Sprint(answers(g)); s != want {
 					t.Error(short(f), s, want)

@@ -1,7 +1,6 @@
 package live_test
 
 import (
-	"math"
 	"math/rand"
 	"slices"
 	"testing"
@@ -10,7 +9,6 @@ import (
 	"ratline/likely"
 	"ratline/live"
 	"ratline/sim"
-	"ratline/val"
 )
 
 // A second, slow reading of chapter 13: what is live is asked of each register at each place by going all ways from there, instruction by instruction.
@@ -273,41 +271,13 @@ func TestBlemishedFunctions(t *testing.T) {
 	}
 }
 
-// bytesFn takes any bytes as a function.
-func bytesFn(b []byte) api.RFn {
-	take := func() int {
-		if len(b) == 0 {
-			return 0
-		}
-		n := int(b[0])
-		b = b[1:]
-		if n >= 250 { // the greatest bytes are numbers far away
-			return []int{-1, -65, 1 << 40, math.MinInt, math.MaxInt, 256}[n-250]
-		}
-		return n
-	}
-	f := api.RFn{Regs: take()}
-	for range take() & 7 {
-		k := api.RBlock{Term: api.RTerm{Kind: take(), A: take(), To: take(), Else: take()}}
-		for range take() & 7 {
-			i := api.RIns{Op: take(), D: take(), A: take(), B: take(), N: take(), K: val.Int(1)}
-			for range take() & 3 {
-				i.L = append(i.L, take())
-			}
-			k.Ins = append(k.Ins, i)
-		}
-		f.Blocks = append(f.Blocks, k)
-	}
-	return f
-}
-
 // seeds are bytes of functions: the chapter's example, a loop, a call and a list.
 func seeds() [][]byte {
 	return [][]byte{
 		{},
-		{2, 1, 3, 1, 0, 0, 1, 2, 1, 0, 0, 0, 0},
-		{200, 3, 1, 0, 1, 0, 1, 1, 199, 0, 0, 0, 0, 2, 64, 0, 2, 1, 3, 64, 63, 199, 8, 0, 7, 0, 0, 0, 1, 0, 3, 128, 0, 0, 0},
-		{9, 1, 3, 8, 0, 0, 3, 7, 0, 0, 0, 4, 0, 5, 8, 0, 0, 1, 3, 3, 1, 3, 8, 8, 0, 0, 0, 2, 8, 1},
+		{0, 2, 1, 3, 1, 0, 0, 1, 2, 1, 0, 0, 0, 0, 0, 0, 0, 0},
+		{0, 200, 3, 1, 0, 1, 0, 1, 1, 199, 0, 0, 0, 0, 0, 0, 0, 0, 2, 64, 0, 2, 2, 3, 64, 63, 199, 8, 0, 0, 0, 0, 0, 7, 0, 0, 0, 1, 0, 0, 0, 0, 0, 3, 128, 0, 0, 0},
+		{0, 9, 1, 3, 8, 0, 0, 3, 7, 0, 0, 0, 4, 0, 0, 0, 0, 0, 5, 8, 0, 0, 1, 0, 0, 0, 0, 3, 3, 3, 1, 8, 8, 0, 0, 0, 0, 0, 0, 0, 2, 8, 1},
 	}
 }
 
@@ -324,7 +294,7 @@ func TestAnyBytes(t *testing.T) {
 				b[r.Intn(len(b))] = []byte{byte(r.Intn(9)), byte(r.Int())}[r.Intn(2)]
 			}
 		}
-		all += expectRead(t, bytesFn(b))
+		all += expectRead(t, likely.Fn(b))
 	}
 	if all < 20000 {
 		t.Error(all)
@@ -336,6 +306,6 @@ func FuzzLive(f *testing.F) {
 		f.Add(b)
 	}
 	f.Fuzz(func(t *testing.T, b []byte) {
-		expectRead(t, bytesFn(b))
+		expectRead(t, likely.Fn(b))
 	})
 }

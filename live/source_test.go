@@ -8,8 +8,7 @@ import (
 	"testing"
 
 	"ratline/api"
-	"ratline/gen"
-	"ratline/lift"
+	"ratline/hand"
 	"ratline/likely"
 	"ratline/live"
 	"ratline/sim"
@@ -21,15 +20,11 @@ import (
 // lifted is a text as register code; false, if it is too long or too great.
 func lifted(t *testing.T, s string) (api.RProg, bool) {
 	t.Helper()
-	p, at, e := gen.Source(s)
-	if e == api.ErrLong || e == api.ErrBig {
-		return api.RProg{}, false
+	p, e := hand.Lifted(s)
+	if e != api.OK && e != api.ErrLong && e != api.ErrBig {
+		t.Fatal(s, e)
 	}
-	q, wrong := lift.Program(p)
-	if e != api.OK || wrong != api.OK {
-		t.Fatal(s, at, e, wrong)
-	}
-	return q, true
+	return p, e == api.OK
 }
 
 // What is live at first are the parameters that are read; behind an end the locals that are read again, and the values that stand on the stack.
@@ -83,12 +78,6 @@ func TestAnySources(t *testing.T) {
 
 // What is not live may be anything; what is Pure and writes what is not live behind it may be gone. Both are asked of the machine that runs register code as it stands.
 
-// alike tells whether two runs tell the same.
-func alike(a, b api.Trace) bool {
-	same := func(x, y api.Event) bool { return x.Kind == y.Kind && x.N == y.N && val.Same(x.V, y.V) }
-	return slices.EqualFunc(a.Events, b.Events, same) && val.Same(a.V, b.V) && a.E == b.E
-}
-
 // with is p, in whose function fn that block has other Ins.
 func with(p api.RProg, fn, block int, l []api.RIns) api.RProg {
 	p.Fns = slices.Clone(p.Fns)
@@ -110,7 +99,7 @@ func spoilt(p api.RProg, fn int, at place, r int) (api.RProg, bool) {
 // expectTold asks that a changed program tells what it told.
 func expectTold(t *testing.T, p, q api.RProg, want api.Trace, fuel int) {
 	t.Helper()
-	if x, e := sim.Run(q, fuel); e != api.OK || !alike(x, want) {
+	if x, e := sim.Run(q, fuel); e != api.OK || !hand.Alike(x, want) {
 		t.Fatalf("%s told %v, %s tells %v, %d", short(p), short(want), short(q), short(x), e)
 	}
 }
@@ -150,7 +139,7 @@ func (n *meant) expectSpoilt(t *testing.T, p api.RProg, fn int, at place, l []in
 			expectTold(t, p, q, want, fuel)
 			n.spoilt++
 		default:
-			if x, _ := sim.Run(q, fuel); !alike(x, want) {
+			if x, _ := sim.Run(q, fuel); !hand.Alike(x, want) {
 				n.seen++
 			}
 		}
@@ -186,7 +175,7 @@ func TestWhatIsNotPureIsSeen(t *testing.T) {
 		q := with(p, 0, 0, l[:len(l)-1])
 		x, e := sim.Run(p, 9)
 		y, wrong := sim.Run(q, 9)
-		if e != api.OK || wrong != api.OK || alike(x, y) || live.Pure(i) {
+		if e != api.OK || wrong != api.OK || hand.Alike(x, y) || live.Pure(i) {
 			t.Error(i, x, e, y, wrong)
 		}
 	}
