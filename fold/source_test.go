@@ -98,7 +98,7 @@ func (n *meant) expectMeant(t *testing.T, p api.RProg) {
 		return
 	}
 	n.programs++
-	others := []api.RProg{mapped(p, fold.Run), mapped(p, known), mapped(mapped(p, known), fold.Run)}
+	others := []api.RProg{hand.Mapped(p, fold.Run), hand.Mapped(p, known), hand.Mapped(hand.Mapped(p, known), fold.Run)}
 	for k := range p.Fns {
 		one := p
 		one.Fns = slices.Clone(p.Fns)
@@ -125,14 +125,6 @@ func (n *meant) expectMeant(t *testing.T, p api.RProg) {
 			break
 		}
 	}
-}
-
-func mapped(p api.RProg, change func(api.RFn) api.RFn) api.RProg {
-	p.Fns = slices.Clone(p.Fns)
-	for k, f := range p.Fns {
-		p.Fns[k] = change(f)
-	}
-	return p
 }
 
 // known is f, in which what is known ahead of a block is written there anew, and a block that is not Reached puts something out.

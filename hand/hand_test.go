@@ -51,6 +51,14 @@ func TestAlike(t *testing.T) {
 	}
 }
 
+func TestMapped(t *testing.T) {
+	p := api.RProg{Fns: []api.RFn{{Name: "a"}, {Name: "b"}}, Main: 1}
+	q := hand.Mapped(p, func(f api.RFn) api.RFn { f.Name += f.Name; return f })
+	if q.Fns[0].Name != "aa" || q.Fns[1].Name != "bb" || q.Main != 1 || p.Fns[0].Name != "a" || p.Fns[1].Name != "b" {
+		t.Error(p, q)
+	}
+}
+
 func some() api.RFn {
 	l, _ := val.Read("[1, [2]]")
 	return hand.Fn(1, 2, hand.Block(hand.Jump(0), hand.Const(1, l), hand.List(1, 0), hand.List(1)), hand.Block(hand.Ret(0)))
@@ -88,6 +96,26 @@ func TestEverything(t *testing.T) {
 		f := hand.Full(some())
 		change(&f)
 		if reflect.DeepEqual(hand.Everything(f), want) != (n == 0) {
+			t.Error(n)
+		}
+	}
+}
+
+// What shares one list with another function, or with another list of its own, is told, spare room too.
+func TestShares(t *testing.T) {
+	if hand.Shares() || hand.Shares(some()) || hand.Shares(some(), some(), hand.Full(some())) {
+		t.Error("shares")
+	}
+	for n, share := range []func(f, g *api.RFn){
+		func(f, g *api.RFn) { g.Blocks = f.Blocks }, func(f, g *api.RFn) { g.Blocks = f.Blocks[2:] },
+		func(f, g *api.RFn) { g.Blocks[1].Ins = f.Blocks[0].Ins[2:] }, func(f, g *api.RFn) { g.Blocks[1].Ins = f.Blocks[1].Ins },
+		func(f, g *api.RFn) { g.Blocks[0].Ins[1].L = f.Blocks[0].Ins[1].L }, func(f, g *api.RFn) { g.Blocks[0].Ins[1].L = f.Blocks[0].Ins[1].L[1:] },
+		func(f, g *api.RFn) { g.Blocks[0].Ins[2].L = g.Blocks[0].Ins[1].L },
+		func(f, g *api.RFn) { g.Blocks[0].Ins[0].K = f.Blocks[0].Ins[0].K }, func(f, g *api.RFn) { g.Blocks[0].Ins[0].K.L[1].L = f.Blocks[0].Ins[0].K.L[1].L[1:] },
+	} {
+		f, g := hand.Full(some()), hand.Full(some())
+		share(&f, &g)
+		if !hand.Shares(f, g) {
 			t.Error(n)
 		}
 	}

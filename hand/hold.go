@@ -24,6 +24,15 @@ func Alike(a, b api.Trace) bool {
 	return slices.EqualFunc(a.Events, b.Events, same) && val.Same(a.V, b.V) && a.E == b.E
 }
 
+// Mapped is p with each of its functions changed.
+func Mapped(p api.RProg, change func(api.RFn) api.RFn) api.RProg {
+	p.Fns = slices.Clone(p.Fns)
+	for n, f := range p.Fns {
+		p.Fns[n] = change(f)
+	}
+	return p
+}
+
 // Plain is f in lists of its own, nil for each one that is empty: so two that mean the same are deeply equal.
 func Plain(f api.RFn) api.RFn {
 	f.Blocks = append([]api.RBlock(nil), f.Blocks...)
@@ -83,6 +92,50 @@ func valueLists(v api.Value) []any {
 	l := []any{v.L[:cap(v.L)]}
 	for _, x := range v.L {
 		l = append(l, valueLists(x)...)
+	}
+	return l
+}
+
+// Shares tells whether two lists of these functions share memory, spare room too. It writes a mark of its own into each place of all lists: where two are one place, the first mark is gone.
+func Shares(l ...api.RFn) bool {
+	var places []*int
+	for _, f := range l {
+		places = append(places, placesOf(f)...)
+	}
+	for mark, p := range places {
+		*p = mark
+	}
+	for mark, p := range places {
+		if *p != mark {
+			return true
+		}
+	}
+	return false
+}
+
+// placesOf has, of each place of all lists of f, spare room too, something that can be written.
+func placesOf(f api.RFn) []*int {
+	var l []*int
+	for n := range f.Blocks[:cap(f.Blocks)] {
+		b := &f.Blocks[:cap(f.Blocks)][n]
+		l = append(l, &b.Term.A)
+		for k := range b.Ins[:cap(b.Ins)] {
+			i := &b.Ins[:cap(b.Ins)][k]
+			l = append(l, &i.Deep)
+			for at := range i.L[:cap(i.L)] {
+				l = append(l, &i.L[:cap(i.L)][at])
+			}
+			l = append(l, placesIn(i.K)...)
+		}
+	}
+	return l
+}
+
+func placesIn(v api.Value) []*int {
+	var l []*int
+	for n := range v.L[:cap(v.L)] {
+		x := &v.L[:cap(v.L)][n]
+		l = append(append(l, &x.Kind), placesIn(*x)...)
 	}
 	return l
 }
