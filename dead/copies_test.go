@@ -33,7 +33,7 @@ func short(x any) string {
 	return s
 }
 
-type pass func(api.RFn) api.RFn
+type pass = hand.Pass
 
 // expect asks that a pass makes want of f.
 func expect(t *testing.T, p pass, f, want api.RFn) {

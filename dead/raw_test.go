@@ -1,13 +1,9 @@
 package dead_test
 
 import (
-	"fmt"
-	"math"
 	"math/rand"
 	"reflect"
 	"slices"
-	"strings"
-	"sync"
 	"testing"
 
 	"ratline/api"
@@ -21,43 +17,11 @@ import (
 
 // Promise 15.3, W9, W10: every call ends and none panics, whatever it is given.
 
-// itself is a list that holds itself.
-func itself() api.Value {
-	v := api.Value{Kind: api.VList, L: make([]api.Value, 2)}
-	v.L[1] = v
-	return v
-}
-
-// oddValues are some that are not Ok, and some that are.
-func oddValues() []api.Value {
-	return []api.Value{
-		{Kind: 5}, {Kind: -1}, {N: 1}, {Kind: api.VInt, S: "a"}, {Kind: api.VText, S: strings.Repeat("x", 1000)}, {Kind: api.VCx, Z: complex(math.NaN(), 0)},
-		{Kind: api.VList, L: make([]api.Value, 1000)}, {Kind: api.VList, L: []api.Value{{Kind: 9}}}, itself(),
-		val.Nil(), val.Int(3), val.Cx(2i), val.Text("ab"), val.List([]api.Value{val.List(nil)}),
-	}
-}
-
 func TestRawFunctions(t *testing.T) {
 	r := rand.New(rand.NewSource(157))
-	far := []int{math.MinInt, math.MinInt + 1, -1 << 40, -65, -64, -2, -1, 0, 0, 0, 1, 1, 2, 3, 63, 64, 127, 128, 199, 200, 255, 256, 1 << 32, 1 << 40, math.MaxInt - 1, math.MaxInt}
-	some := func() int { return far[r.Intn(len(far))] }
-	maybe := func() int { return r.Intn(2) * some() }
-	few := func() int { return []int{r.Intn(4), r.Intn(4), some()}[r.Intn(3)] }
-	values := oddValues()
 	var n counts
 	for range 15000 {
-		f := api.RFn{Name: "raw", Params: maybe(), Regs: some(), Blocks: make([]api.RBlock, r.Intn(5))}
-		for k := range f.Blocks {
-			f.Blocks[k].Term = api.RTerm{Kind: r.Intn(5), A: few(), To: few(), Else: few()}
-			for range r.Intn(6) {
-				i := api.RIns{Op: []int{r.Intn(10), api.RMov, some()}[r.Intn(3)], D: few(), A: few(), B: few(), N: []int{r.Intn(22), some()}[r.Intn(2)], Deep: maybe(), K: values[r.Intn(len(values))]}
-				for range r.Intn(4) {
-					i.L = append(i.L, few())
-				}
-				f.Blocks[k].Ins = append(f.Blocks[k].Ins, i)
-			}
-		}
-		n.expectRead(t, f)
+		n.expectRead(t, likely.Raw(r.Intn))
 	}
 	if n.told < 2000 || n.left < 10000 || n.swept < 20000 || n.needed < 20000 {
 		t.Error(n)
@@ -66,7 +30,7 @@ func TestRawFunctions(t *testing.T) {
 
 // A K that is not Ok is nil, as everywhere.
 func TestValuesThatAreNotOk(t *testing.T) {
-	for _, v := range oddValues() {
+	for _, v := range likely.OddValues() {
 		want := val.Copy(v)
 		for _, p := range passes {
 			expectBlock(t, p, block(ret(1), konst(1, v), out(1)), block(ret(1), konst(1, want), out(1)))
@@ -82,22 +46,14 @@ func isSound(t *testing.T, f api.RFn) {
 	}
 }
 
-func upTo(n int) []int {
-	var l []int
-	for k := range n {
-		l = append(l, k)
-	}
-	return l
-}
-
 // rowOf has 2,000 blocks, of which the one that is come to next stands step behind; the last one has another end.
 func rowOf(step int, code func(k int) []api.RIns, last api.RTerm) api.RFn {
-	f := fn(1, 200, make([]api.RBlock, 2000)...)
-	for k := range 2000 {
-		f.Blocks[k*step%2000] = block(jump((k+1)*step%2000), code(k)...)
-	}
-	f.Blocks[1999*step%2000].Term = last
-	return f
+	return fn(1, 200, hand.Row(2000, step, func(k, next int) api.RBlock {
+		if k == 1999 {
+			return block(last, code(k)...)
+		}
+		return block(jump(next), code(k)...)
+	})...)
 }
 
 // Of 2,000 blocks each makes what the next one needs, ahead, back and across; what the last one needs tells how many of them are needed.
@@ -116,7 +72,7 @@ func TestLongRows(t *testing.T) {
 	for _, step := range []int{1, 1999, 7} {
 		isSound(t, rowOf(step, all, ret(0)))
 		for _, r := range []int{10, 9, 11, 50, 197, 198} {
-			last := slices.IndexFunc(upTo(2000), func(k int) bool { return k > 1999-199 && (k+1)%199 == r }) // the last that writes r
+			last := slices.IndexFunc(hand.Upto(2000), func(k int) bool { return k > 1999-199 && (k+1)%199 == r }) // the last that writes r
 			expect(t, dead.Sweep, rowOf(step, all, ret(r)), rowOf(step, movesUpTo(last), ret(r)))
 		}
 		expect(t, dead.Sweep, rowOf(step, movesUpTo(1999), ret(199)), rowOf(step, movesUpTo(-1), ret(199)))
@@ -299,53 +255,16 @@ func some() api.RFn {
 		block(br(4, 0, 1), konst(5, l), mov(5, 4), konst(4, l), tick(1), list(4, 5, 3)))
 }
 
-func TestNothingIsChanged(t *testing.T) {
-	unchanged := func(f, g api.RFn) {
-		t.Helper()
-		for _, p := range passes {
-			p(f)
-		}
-		if !reflect.DeepEqual(hand.Everything(f), hand.Everything(g)) {
-			t.Fatal("what was handed in is changed")
-		}
-	}
-	unchanged(hand.Full(some()), hand.Full(some()))
-	for seed := range int64(1500) {
-		p, q := likely.Registers(rand.New(rand.NewSource(seed)).Intn, 7), likely.Registers(rand.New(rand.NewSource(seed)).Intn, 7)
-		for n := range p.Fns {
-			unchanged(hand.Full(p.Fns[n]), hand.Full(q.Fns[n]))
-		}
-		f, g := someMoves(rand.New(rand.NewSource(seed)), 5, 4), someMoves(rand.New(rand.NewSource(seed)), 5, 4)
-		unchanged(hand.Full(f), hand.Full(g))
-	}
-}
-
-// No two lists of answers share memory, spare room too, and none shares any with what was handed in; what is written into an answer is seen nowhere.
-func TestAnswersAreNewMemory(t *testing.T) {
+func TestMemory(t *testing.T) {
 	r := rand.New(rand.NewSource(159))
 	fns := []api.RFn{some()}
-	for range 500 {
+	for range 1000 {
 		fns = append(fns, likely.Registers(r.Intn, 7).Fns...)
 		fns = append(fns, someMoves(r, 5, 4))
 	}
-	for _, x := range fns {
-		f := hand.Full(x)
-		var first, second []api.RFn
-		for _, p := range passes {
-			first, second = append(first, p(f)), append(second, p(f))
-		}
-		want := fmt.Sprint(second)
-		if hand.Shares(first...) { // it has written into all of them
-			t.Fatal("two lists share memory", short(x))
-		}
-		if !reflect.DeepEqual(hand.Everything(f), hand.Everything(hand.Full(x))) || fmt.Sprint(second) != want {
-			t.Fatal("what was answered is kept", short(x))
-		}
-		for k, p := range passes {
-			second[k] = p(f)
-		}
-		if fmt.Sprint(second) != want || hand.Shares(append(second, f)...) {
-			t.Fatal("two lists share memory, or what was answered is kept", short(x))
+	for _, f := range fns {
+		if s := hand.Touched(f, reflect.DeepEqual, passes...); s != "" {
+			t.Fatal(s, short(f))
 		}
 	}
 }
@@ -353,28 +272,10 @@ func TestAnswersAreNewMemory(t *testing.T) {
 // The same call answers the same, whoever else calls, and whatever room stands behind its lists.
 func TestTheSameIsAnswered(t *testing.T) {
 	r := rand.New(rand.NewSource(160))
-	told := func(f api.RFn) string {
-		s := ""
-		for _, p := range passes {
-			s += fmt.Sprint(p(f))
-		}
-		return s
-	}
 	for range 300 {
 		f := []api.RFn{likely.Registers(r.Intn, 7).Fns[0], someMoves(r, 6, 5)}[r.Intn(2)]
-		want := told(f)
-		var all sync.WaitGroup
-		for n := range 4 {
-			all.Go(func() {
-				g := f
-				if n%2 == 1 {
-					g = hand.Full(f)
-				}
-				if s := told(g); s != want {
-					t.Error(short(f), short(s), short(want))
-				}
-			})
+		if hand.Unlike(f, reflect.DeepEqual, passes...) {
+			t.Error(short(f))
 		}
-		all.Wait()
 	}
 }

@@ -465,16 +465,7 @@ func TestAnyBytes(t *testing.T) {
 	r := rand.New(rand.NewSource(156))
 	var n counts
 	for range 15000 {
-		b := slices.Clone(seeds()[r.Intn(4)])
-		for range r.Intn(60) {
-			b = append(b, byte(r.Intn(9)))
-		}
-		for range r.Intn(6) {
-			if len(b) > 0 {
-				b[r.Intn(len(b))] = []byte{byte(r.Intn(9)), byte(r.Int())}[r.Intn(2)]
-			}
-		}
-		n.expectRead(t, likely.Fn(b))
+		n.expectRead(t, likely.Fn(likely.Stained(r.Intn, seeds()...)))
 	}
 	if n.told < 2000 || n.left < 3000 || n.swept < 5000 || n.needed < 3000 {
 		t.Error(n)

@@ -28,19 +28,6 @@ func lifted(t *testing.T, s string) (api.RProg, bool) {
 	return p, e == api.OK
 }
 
-// toldCode is f in a word a block: a letter for each Ins, and one for its end.
-func toldCode(f api.RFn) string {
-	var words []string
-	for _, b := range f.Blocks {
-		word := ""
-		for _, i := range b.Ins {
-			word += map[int]string{api.RConst: "k", api.RMov: "m", api.RBin: "b", api.RUn: "u", api.RCall: "c", api.ROut: "o", api.RTick: "t", api.RList: "l"}[i.Op]
-		}
-		words = append(words, word+map[int]string{api.TJump: "J", api.TBr: "B", api.TRet: "R"}[b.Term.Kind])
-	}
-	return strings.Join(words, " ")
-}
-
 func TestSources(t *testing.T) {
 	for _, x := range []struct{ text, swept, folded string }{
 		{"fn main() { }", "kR", "kR"},
@@ -63,84 +50,54 @@ func TestSources(t *testing.T) {
 		{"fn f(n) { let s = 0; let c = 0; while n { s = s + n; c = n; n = n - 1; } return n; } fn main() { }", "kmJ B bmkbmtJ R", "kJ B bmkbmtJ R"},
 	} {
 		p, _ := lifted(t, x.text)
-		if got := toldCode(dead.Run(p.Fns[0])); got != x.swept {
+		if got := hand.Words(dead.Run(p.Fns[0])); got != x.swept {
 			t.Errorf("%s: %q, want %q\n%s\n%s", x.text, got, x.swept, sim.Text(p.Fns[0]), sim.Text(dead.Run(p.Fns[0])))
 		}
 		q := hand.Mapped(p, fold.Run)
-		if got := toldCode(dead.Run(q.Fns[0])); got != x.folded {
+		if got := hand.Words(dead.Run(q.Fns[0])); got != x.folded {
 			t.Errorf("%s, folded: %q, want %q\n%s", x.text, got, x.folded, sim.Text(dead.Run(q.Fns[0])))
 		}
 		var n counts
 		for _, f := range slices.Concat(p.Fns, q.Fns) {
 			n.expectRead(t, f)
 		}
-		new(meant).expectMeant(t, p)
-		new(meant).expectMeant(t, q)
+		expectMeant(t, new(hand.Tried), p)
+		expectMeant(t, new(hand.Tried), q)
 	}
 }
 
 // Promise 15.2: what is left tells the same.
 
-// meant counts what was tried of programs.
-type meant struct{ programs, runs, ends, errs, fuel int }
-
 // expectMeant asks that p, with each of its functions passed through each pass, and with all of them, tells what it told, whatever the fuel is.
-func (n *meant) expectMeant(t *testing.T, p api.RProg) {
+func expectMeant(t *testing.T, n *hand.Tried, p api.RProg) {
 	t.Helper()
-	if sim.Check(p) != api.OK {
-		return
-	}
-	n.programs++
-	others := []api.RProg{hand.Mapped(hand.Mapped(p, dead.Run), dead.Run), hand.Mapped(hand.Mapped(p, fold.Run), dead.Run), hand.Mapped(hand.Mapped(p, dead.Run), fold.Run)}
-	for _, pass := range passes {
+	others := hand.Others(p, passes...)
+	for _, pass := range []pass{
+		func(f api.RFn) api.RFn { return dead.Run(dead.Run(f)) },
+		func(f api.RFn) api.RFn { return dead.Run(fold.Run(f)) },
+		func(f api.RFn) api.RFn { return fold.Run(dead.Run(f)) },
+	} {
 		others = append(others, hand.Mapped(p, pass))
 	}
-	for k := range p.Fns {
-		one := p
-		one.Fns = slices.Clone(p.Fns)
-		one.Fns[k] = dead.Run(p.Fns[k])
-		others = append(others, one)
-	}
-	for _, fuel := range append(upTo(30), 100, -1) {
-		want, _ := sim.Run(p, fuel)
-		n.count(want.E)
-		for k, q := range others {
-			if x, e := sim.Run(q, fuel); e != api.OK || !hand.Alike(x, want) {
-				t.Fatalf("%s told %s, %s, %d, tells %s, %d", short(p), short(want), short(q), k, short(x), e)
-			}
-		}
-		if want.E != api.RFuel {
-			break
-		}
-	}
-}
-
-func (n *meant) count(e api.Run) {
-	n.runs++
-	switch e {
-	case api.ROK:
-		n.ends++
-	case api.RFuel:
-		n.fuel++
-	default:
-		n.errs++
+	if s := n.Otherwise(p, others...); s != "" {
+		t.Fatal(s)
 	}
 }
 
 func TestTheSameIsToldOfLikelyPrograms(t *testing.T) {
-	var n meant
+	var n hand.Tried
 	r := rand.New(rand.NewSource(161))
 	for range 2500 {
-		n.expectMeant(t, likely.Registers(r.Intn, 6))
+		expectMeant(t, &n, likely.Registers(r.Intn, 6))
 	}
-	if n.programs < 1800 || n.runs < 10000 || n.ends < 400 || n.errs < 400 || n.fuel < 7000 {
+	if n.Programs < 1800 || n.Runs < 10000 || n.Ends < 400 || n.Errs < 400 || n.Fuel < 7000 {
 		t.Error(n)
 	}
 }
 
 // Programs of copies alone, which put all registers out at last: whatever a copy is told by is seen.
 func TestTheSameIsToldOfMoves(t *testing.T) {
-	var n meant
+	var n hand.Tried
 	r := rand.New(rand.NewSource(162))
 	for range 1500 {
 		regs := 2 + r.Intn(5)
@@ -152,12 +109,12 @@ func TestTheSameIsToldOfMoves(t *testing.T) {
 		f.Params, f.Blocks[0].Ins = 0, slices.Concat(first, code(tick(1)), f.Blocks[0].Ins)
 		for k := range f.Blocks {
 			if b := &f.Blocks[k]; b.Term.Kind == api.TRet {
-				b.Ins = append(b.Ins, list(b.Term.A, upTo(regs)...))
+				b.Ins = append(b.Ins, list(b.Term.A, hand.Upto(regs)...))
 			}
 		}
-		n.expectMeant(t, api.RProg{Fns: []api.RFn{f}})
+		expectMeant(t, &n, api.RProg{Fns: []api.RFn{f}})
 	}
-	if n.programs < 600 || n.runs < 5000 || n.ends < 200 || n.fuel < 4000 {
+	if n.Programs < 600 || n.Runs < 5000 || n.Ends < 200 || n.Fuel < 4000 {
 		t.Error(n)
 	}
 }
@@ -169,14 +126,14 @@ func numbered(r int) api.RIns {
 }
 
 func TestTheSameIsToldOfSources(t *testing.T) {
-	var n meant
+	var n hand.Tried
 	var seen counts
 	for seed := range 300 {
 		p, ok := lifted(t, likely.Source(rand.New(rand.NewSource(int64(seed))).Intn))
 		if !ok {
 			continue
 		}
-		n.expectMeant(t, p)
+		expectMeant(t, &n, p)
 		for _, f := range p.Fns {
 			if sim.Size(f) < 200 { // the second reading is slow
 				seen.expectRead(t, f)
@@ -184,7 +141,7 @@ func TestTheSameIsToldOfSources(t *testing.T) {
 			}
 		}
 	}
-	if n.programs < 200 || n.runs < 1000 || n.ends < 50 || n.errs < 50 || seen.told < 500 || seen.left < 100 || seen.swept < 5000 || seen.twice < 100 {
+	if n.Programs < 200 || n.Runs < 1000 || n.Ends < 50 || n.Errs < 50 || seen.told < 500 || seen.left < 100 || seen.swept < 5000 || seen.twice < 100 {
 		t.Error(n, seen)
 	}
 }
@@ -196,7 +153,7 @@ func TestGreatSources(t *testing.T) {
 		s += "let v" + strconv.Itoa(k+1) + " = v" + strconv.Itoa(k) + "; "
 	}
 	row, _ := lifted(t, s+"return v60; } fn main() { }")
-	if g := dead.Run(row.Fns[0]); toldCode(g) != "R" || g.Blocks[0].Term != ret(0) {
+	if g := dead.Run(row.Fns[0]); hand.Words(g) != "R" || g.Blocks[0].Term != ret(0) {
 		t.Error(sim.Text(g))
 	}
 	p, ok := lifted(t, s+strings.Repeat("if v1 { v2 = v3; } ", 60)+"while v4 { v5 = v6; v6 = v7; } return v60; } fn main() { }")

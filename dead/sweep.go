@@ -66,7 +66,7 @@ func newSweeper(f api.RFn) *sweeper {
 }
 
 func isRegister(r int) bool {
-	return isPlace(r, api.MaxVirtual)
+	return r >= 0 && r < api.MaxVirtual
 }
 
 // note takes up that m is a mention of those registers.

@@ -2,6 +2,7 @@ package dead
 
 import (
 	"ratline/api"
+	"ratline/blocks"
 	"ratline/graph"
 	"ratline/sim"
 )
@@ -16,31 +17,6 @@ func (c *code) dropUnreached() {
 			left = append(left, c.Blocks[n])
 		}
 	}
-	for n := range left {
-		left[n].Term = moved(left[n].Term, places)
-	}
+	blocks.Move(left, places)
 	c.Blocks = left
-}
-
-// moved is t, if each block is now at another place.
-func moved(t api.RTerm, places []int) api.RTerm {
-	switch t.Kind {
-	case api.TBr:
-		t.To, t.Else = placeOf(t.To, places), placeOf(t.Else, places)
-	case api.TJump:
-		t.To = placeOf(t.To, places)
-	}
-	return t
-}
-
-// placeOf is where block n is now. What was no block is none now either, since there are no more of them.
-func placeOf(n int, places []int) int {
-	if !isPlace(n, len(places)) {
-		return n
-	}
-	return places[n]
-}
-
-func isPlace(n, length int) bool {
-	return n >= 0 && n < length
 }

@@ -440,16 +440,7 @@ func TestAnyBytes(t *testing.T) {
 	r := rand.New(rand.NewSource(144))
 	var n counts
 	for range 8000 {
-		b := slices.Clone(seeds()[r.Intn(4)])
-		for range r.Intn(60) {
-			b = append(b, byte(r.Intn(9)))
-		}
-		for range r.Intn(6) {
-			if len(b) > 0 {
-				b[r.Intn(len(b))] = []byte{byte(r.Intn(9)), byte(r.Int())}[r.Intn(2)]
-			}
-		}
-		n.expectRead(t, likely.Fn(b))
+		n.expectRead(t, likely.Fn(likely.Stained(r.Intn, seeds()...)))
 	}
 	if n.reached < 6000 || n.known < 8000 || n.folded < 2000 || n.jumps < 800 {
 		t.Error(n)

@@ -2,7 +2,6 @@ package fold_test
 
 import (
 	"math/rand"
-	"slices"
 	"strings"
 	"testing"
 
@@ -82,48 +81,21 @@ func TestSources(t *testing.T) {
 		for _, f := range p.Fns {
 			n.expectRead(t, f)
 		}
-		new(meant).expectMeant(t, p)
+		expectMeant(t, new(hand.Tried), p)
 	}
 }
 
 // Promise 14.3: what is folded tells the same.
 
-// meant counts what was tried of programs.
-type meant struct{ programs, runs, ends, errs, fuel int }
-
 // expectMeant asks that p, with each of its functions folded, and with all of them, tells what it told, whatever the fuel is: also where what is known is written anew ahead of each block.
-func (n *meant) expectMeant(t *testing.T, p api.RProg) {
+func expectMeant(t *testing.T, n *hand.Tried, p api.RProg) {
 	t.Helper()
 	if sim.Check(p) != api.OK {
 		return
 	}
-	n.programs++
-	others := []api.RProg{hand.Mapped(p, fold.Run), hand.Mapped(p, known), hand.Mapped(hand.Mapped(p, known), fold.Run)}
-	for k := range p.Fns {
-		one := p
-		one.Fns = slices.Clone(p.Fns)
-		one.Fns[k] = fold.Run(p.Fns[k])
-		others = append(others, one)
-	}
-	for fuel := range 30 {
-		want, _ := sim.Run(p, fuel)
-		n.runs++
-		switch want.E {
-		case api.ROK:
-			n.ends++
-		case api.RFuel:
-			n.fuel++
-		default:
-			n.errs++
-		}
-		for k, q := range others {
-			if x, e := sim.Run(q, fuel); e != api.OK || !hand.Alike(x, want) {
-				t.Fatalf("%s told %s, %s, %d, tells %s, %d", short(p), short(want), short(q), k, short(x), e)
-			}
-		}
-		if want.E != api.RFuel {
-			break
-		}
+	others := append(hand.Others(p, fold.Run), hand.Mapped(p, known), hand.Mapped(hand.Mapped(p, known), fold.Run))
+	if s := n.Otherwise(p, others...); s != "" {
+		t.Fatal(s)
 	}
 }
 
@@ -146,32 +118,32 @@ func known(f api.RFn) api.RFn {
 }
 
 func TestTheSameIsToldOfLikelyPrograms(t *testing.T) {
-	var n meant
+	var n hand.Tried
 	r := rand.New(rand.NewSource(145))
 	for range 4000 {
-		n.expectMeant(t, likely.Registers(r.Intn, 6))
+		expectMeant(t, &n, likely.Registers(r.Intn, 6))
 	}
-	if n.programs < 2500 || n.runs < 20000 || n.ends < 500 || n.errs < 500 || n.fuel < 10000 {
+	if n.Programs < 2500 || n.Runs < 20000 || n.Ends < 500 || n.Errs < 500 || n.Fuel < 10000 {
 		t.Error(n)
 	}
 }
 
 func TestTheSameIsToldOfSources(t *testing.T) {
-	var n meant
+	var n hand.Tried
 	var seen counts
 	for seed := range 300 {
 		p, ok := lifted(t, likely.Source(rand.New(rand.NewSource(int64(seed))).Intn))
 		if !ok {
 			continue
 		}
-		n.expectMeant(t, p)
+		expectMeant(t, &n, p)
 		for _, f := range p.Fns {
 			if sim.Size(f) < 120 { // the second reading is slow
 				seen.expectRead(t, f)
 			}
 		}
 	}
-	if n.programs < 200 || n.runs < 1000 || n.ends < 50 || n.errs < 50 || seen.known < 10000 || seen.folded < 3000 || seen.jumps < 100 {
+	if n.Programs < 200 || n.Runs < 1000 || n.Ends < 50 || n.Errs < 50 || seen.known < 10000 || seen.folded < 3000 || seen.jumps < 100 {
 		t.Error(n, seen)
 	}
 }

@@ -1,9 +1,11 @@
 package likely_test
 
 import (
+	"bytes"
 	"math"
 	"math/rand"
 	"reflect"
+	"slices"
 	"testing"
 
 	"ratline/api"
@@ -78,7 +80,7 @@ func TestBlemish(t *testing.T) {
 // The same choices make the same.
 func TestSameChoices(t *testing.T) {
 	for seed := range 100 {
-		if likely.Source(choose(seed)) != likely.Source(choose(seed)) || !reflect.DeepEqual(likely.Registers(choose(seed), 9), likely.Registers(choose(seed), 9)) {
+		if likely.Source(choose(seed)) != likely.Source(choose(seed)) || !reflect.DeepEqual(likely.Registers(choose(seed), 9), likely.Registers(choose(seed), 9)) || sim.Text(likely.Raw(choose(seed))) != sim.Text(likely.Raw(choose(seed))) {
 			t.Error(seed)
 		}
 	}
@@ -96,5 +98,58 @@ func TestFn(t *testing.T) {
 	}}
 	if !reflect.DeepEqual(f, want) {
 		t.Error(f, want)
+	}
+}
+
+// Raw functions are hardly ever sound: numbers are small, or far away in both directions, and some values are not Ok.
+func TestRaw(t *testing.T) {
+	sound, odd, least, most, ops := 0, 0, 0, 0, map[int]int{}
+	for seed := range 3000 {
+		f := likely.Raw(choose(seed))
+		f.Params = 0
+		if sim.Check(api.RProg{Fns: []api.RFn{f}}) == api.OK {
+			sound++
+		}
+		for _, b := range f.Blocks {
+			least, most = min(least, b.Term.To), max(most, b.Term.To)
+			for _, i := range b.Ins {
+				ops[i.Op]++
+				if !val.Ok(i.K) {
+					odd++
+				}
+			}
+		}
+	}
+	if sound > 600 || odd < 5000 || least != math.MinInt || most != math.MaxInt || ops[api.RList] < 500 || ops[0] < 500 || ops[-65] < 50 {
+		t.Error(sound, odd, least, most, ops)
+	}
+}
+
+func TestOddValues(t *testing.T) {
+	isOk := []bool{}
+	for _, v := range likely.OddValues() {
+		if ok := val.Ok(v); len(isOk) == 0 || isOk[len(isOk)-1] != ok {
+			isOk = append(isOk, ok)
+		}
+	}
+	if !slices.Equal(isOk, []bool{false, true}) {
+		t.Error(isOk)
+	}
+}
+
+// The seeds stay as they are, and are mostly to be seen again.
+func TestStained(t *testing.T) {
+	seeds, begins, longer := [][]byte{{}, {1, 2, 3, 200}}, 0, 0
+	for seed := range 1000 {
+		b := likely.Stained(choose(seed), seeds...)
+		if bytes.HasPrefix(b, seeds[1]) {
+			begins++
+		}
+		if len(b) > 40 {
+			longer++
+		}
+	}
+	if begins < 100 || begins > 500 || longer < 100 || longer > 500 || !reflect.DeepEqual(seeds, [][]byte{{}, {1, 2, 3, 200}}) {
+		t.Error(begins, longer, seeds)
 	}
 }

@@ -1,0 +1,174 @@
+package hand
+
+import (
+	"slices"
+	"strconv"
+	"strings"
+	"sync"
+
+	"ratline/api"
+	"ratline/sim"
+)
+
+// Pass makes another function of one.
+type Pass = func(api.RFn) api.RFn
+
+// Words is f in a word a block: a letter for each Ins, and one for its end; - where there is none.
+func Words(f api.RFn) string {
+	words := make([]string, len(f.Blocks))
+	for n, b := range f.Blocks {
+		for _, i := range b.Ins {
+			words[n] += letter("-kmbucotl", i.Op)
+		}
+		words[n] += letter("-JBR", b.Term.Kind)
+	}
+	return strings.Join(words, " ")
+}
+
+// letter is the one at place n; the first one, if there is none.
+func letter(letters string, n int) string {
+	if n < 0 || n >= len(letters) {
+		n = 0
+	}
+	return letters[n : n+1]
+}
+
+// Upto are the numbers from 0 on, n of them.
+func Upto(n int) []int {
+	l := make([]int, n)
+	for k := range l {
+		l[k] = k
+	}
+	return l
+}
+
+// Row has so many blocks, of which the one that is come to next stands step behind, round the end. Each is made of its place on the way and of where the next one stands; the last one's next is the first.
+func Row(count, step int, block func(k, next int) api.RBlock) []api.RBlock {
+	l := make([]api.RBlock, count)
+	for k := range l {
+		l[k*step%count] = block(k, (k+1)*step%count)
+	}
+	return l
+}
+
+// Others are p with all of its functions passed, by each pass, and with one of them alone.
+func Others(p api.RProg, passes ...Pass) []api.RProg {
+	var l []api.RProg
+	for _, pass := range passes {
+		l = append(l, Mapped(p, pass))
+		for n, f := range p.Fns {
+			one := p
+			one.Fns = slices.Clone(p.Fns)
+			one.Fns[n] = pass(f)
+			l = append(l, one)
+		}
+	}
+	return l
+}
+
+// Tried counts programs, and their runs by how they ended.
+type Tried struct{ Programs, Runs, Ends, Errs, Fuel int }
+
+// Otherwise runs p, if it is sound, with each fuel below 30, with 100 and with -1, until it ends with fuel left, and tells of the first one of others that is not sound or tells something else; "" if there is none.
+func (n *Tried) Otherwise(p api.RProg, others ...api.RProg) string {
+	if sim.Check(p) != api.OK {
+		return ""
+	}
+	n.Programs++
+	for _, fuel := range append(Upto(30), 100, -1) {
+		want, _ := sim.Run(p, fuel)
+		n.count(want.E)
+		for k, q := range others {
+			if x, e := sim.Run(q, fuel); e != api.OK || !Alike(x, want) {
+				return "the program " + strconv.Itoa(k) + " of others, with fuel " + strconv.Itoa(fuel) + ", " + e.Error() + "\n" + code(q) + "\nof\n" + code(p)
+			}
+		}
+		if want.E != api.RFuel {
+			break
+		}
+	}
+	return ""
+}
+
+func (n *Tried) count(e api.Run) {
+	n.Runs++
+	switch e {
+	case api.ROK:
+		n.Ends++
+	case api.RFuel:
+		n.Fuel++
+	default:
+		n.Errs++
+	}
+}
+
+func code(p api.RProg) string {
+	s := "main " + strconv.Itoa(p.Main)
+	for _, f := range p.Fns {
+		s += "\nfn " + strconv.Itoa(f.Params) + " " + strconv.Itoa(f.Regs) + "\n" + sim.Text(f)
+	}
+	return s
+}
+
+// Same tells whether two things are deeply the same. (Tests hand in how to ask that.)
+type Same = func(a, b any) bool
+
+// Touched tells what passes do to the memory of f, or of what they answered, that they may not; "" if nothing.
+func Touched(f api.RFn, same Same, passes ...Pass) string {
+	full, was := Full(f), Everything(Full(f))
+	var first, second []api.RFn
+	for _, p := range passes {
+		first, second = append(first, p(full)), append(second, p(full))
+	}
+	told := answers(full, passes)
+	switch {
+	case !same(Everything(full), was):
+		return "what was handed in is changed"
+	case Shares(first...): // it has written into all of them
+		return "two lists of answers share memory"
+	case !same(Everything(full), was):
+		return "an answer shares memory with what was handed in"
+	case !same(plains(second), told):
+		return "two answers share memory"
+	case !same(answers(full, passes), told):
+		return "what was answered is kept"
+	case Shares(append(second, full)...):
+		return "two lists share memory"
+	}
+	return ""
+}
+
+// Unlike tells whether a pass answers f something else when several call at once, or when room stands behind the lists of f.
+func Unlike(f api.RFn, same Same, passes ...Pass) bool {
+	told := answers(f, passes)
+	var seen [4]bool
+	var all sync.WaitGroup
+	for n := range seen {
+		all.Go(func() {
+			g := f
+			if n%2 == 1 {
+				g = Full(f)
+			}
+			seen[n] = same(answers(g, passes), told)
+		})
+	}
+	all.Wait()
+	return seen != [...]bool{true, true, true, true}
+}
+
+// answers is what passes make of f.
+func answers(f api.RFn, passes []Pass) []api.RFn {
+	l := make([]api.RFn, len(passes))
+	for n, p := range passes {
+		l[n] = p(f)
+	}
+	return plains(l)
+}
+
+func plains(l []api.RFn) []api.RFn {
+	all := make([]api.RFn, len(l))
+	for n, f := range l {
+		all[n] = Plain(f)
+	}
+	return all
+}
