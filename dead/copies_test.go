@@ -16,7 +16,8 @@ import (
 var (
 	konst, mov, bin, un, call, list = hand.Const, hand.Mov, hand.Bin, hand.Un, hand.Call, hand.List
 	out, tick, jump, br, ret        = hand.Out, hand.Tick, hand.Jump, hand.Br, hand.Ret
-	code, block, fn, deep, plain    = hand.Code, hand.Block, hand.Fn, hand.Deep, hand.Plain
+	code, block, fn, deep           = hand.Code, hand.Block, hand.Fn, hand.Deep
+	plain, copied                   = hand.Plain, hand.Copied
 )
 
 func number(d int) api.RIns { return konst(d, val.Int(7)) }

@@ -11,7 +11,6 @@ import (
 	"ratline/likely"
 	"ratline/live"
 	"ratline/sim"
-	"ratline/val"
 )
 
 // A second, slow reading of chapter 15: what a register is told by is looked for backward from where it is read; what is needed is asked by going all ways from there; what is needless is taken out all at once, and then again.
@@ -57,17 +56,6 @@ func readFields(i *api.RIns) []*int {
 // readEnd is where an end reads a register.
 func readEnd(t *api.RTerm) []*int {
 	return map[int][]*int{2: {&t.A}, 3: {&t.A}}[t.Kind]
-}
-
-// copied is f in lists of its own, with values that are Ok.
-func copied(f api.RFn) api.RFn {
-	g := plain(f)
-	for _, b := range g.Blocks {
-		for k := range b.Ins {
-			b.Ins[k].K = val.Copy(b.Ins[k].K)
-		}
-	}
-	return g
 }
 
 func readCopies(f api.RFn) api.RFn {

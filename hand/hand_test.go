@@ -82,6 +82,20 @@ func TestPlainAndFull(t *testing.T) {
 	}
 }
 
+// Copied means what f means, but for values that are not Ok, in memory of its own.
+func TestCopied(t *testing.T) {
+	odd := some()
+	odd.Blocks[0].Ins[1].K, odd.Blocks[0].Ins[2].L = api.Value{Kind: 9}, []int{}
+	if f := hand.Copied(odd); !reflect.DeepEqual(f, hand.Plain(some())) || reflect.DeepEqual(odd, some()) {
+		t.Error(f)
+	}
+	f := some()
+	hand.Copied(f).Blocks[0].Ins[0].K.L[1].L[0] = val.Int(9)
+	if !reflect.DeepEqual(f, some()) {
+		t.Error("changed", f)
+	}
+}
+
 // Each thing that f has, spare room too, is in Everything.
 func TestEverything(t *testing.T) {
 	want := hand.Everything(hand.Full(some()))

@@ -46,6 +46,17 @@ func Plain(f api.RFn) api.RFn {
 	return f
 }
 
+// Copied is Plain, with values that are Ok.
+func Copied(f api.RFn) api.RFn {
+	f = Plain(f)
+	for _, b := range f.Blocks {
+		for k := range b.Ins {
+			b.Ins[k].K = val.Copy(b.Ins[k].K)
+		}
+	}
+	return f
+}
+
 // WithRoom is a list of its own with room behind it, which holds something.
 func WithRoom[T any](l []T, spare ...T) []T {
 	return append(slices.Clone(l), spare...)[:len(l)]
