@@ -1,4 +1,4 @@
-// Package blocks has what several passes do with the blocks of a function.
+// Package blocks has what several passes do with the blocks of a function, and with what stands in them.
 package blocks
 
 import (
@@ -20,6 +20,20 @@ func Own(f api.RFn) api.RFn {
 		}
 	}
 	return f
+}
+
+// Read lets i read, of each register that it read, the one of which to tells. Its list is changed.
+func Read(i *api.RIns, to func(r int) int) {
+	switch i.Op {
+	case api.RMov, api.RUn, api.ROut:
+		i.A = to(i.A)
+	case api.RBin:
+		i.A, i.B = to(i.A), to(i.B)
+	case api.RCall, api.RList:
+		for n, r := range i.L {
+			i.L[n] = to(r)
+		}
+	}
 }
 
 // Led is t, which leads to where to tells of each place to which it led.

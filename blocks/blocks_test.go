@@ -38,6 +38,24 @@ func TestOwn(t *testing.T) {
 	}
 }
 
+// What an Ins reads is told anew, once each; what it writes, and what is no register, stays.
+func TestRead(t *testing.T) {
+	behind := func(r int) int { return r + 10 }
+	all := api.RIns{D: 1, A: 2, B: 3, N: 4, Deep: 5, K: val.Int(6)}
+	for op, want := range map[int]api.RIns{
+		api.RConst: {A: 2, B: 3, L: []int{7, 8, 7}}, api.RMov: {A: 12, B: 3, L: []int{7, 8, 7}}, api.RBin: {A: 12, B: 13, L: []int{7, 8, 7}}, api.RUn: {A: 12, B: 3, L: []int{7, 8, 7}},
+		api.RCall: {A: 2, B: 3, L: []int{17, 18, 17}}, api.ROut: {A: 12, B: 3, L: []int{7, 8, 7}}, api.RTick: {A: 2, B: 3, L: []int{7, 8, 7}}, api.RList: {A: 2, B: 3, L: []int{17, 18, 17}},
+		0: {A: 2, B: 3, L: []int{7, 8, 7}}, 9: {A: 2, B: 3, L: []int{7, 8, 7}}, -1: {A: 2, B: 3, L: []int{7, 8, 7}}, math.MaxInt: {A: 2, B: 3, L: []int{7, 8, 7}},
+	} {
+		i := all
+		i.Op, i.L = op, []int{7, 8, 7}
+		want.Op, want.D, want.N, want.Deep, want.K = op, 1, 4, 5, val.Int(6)
+		if blocks.Read(&i, behind); !reflect.DeepEqual(i, want) {
+			t.Error(i, want)
+		}
+	}
+}
+
 func TestLed(t *testing.T) {
 	behind := func(n int) int { return n + 10 }
 	for _, x := range []struct{ end, want api.RTerm }{

@@ -2,6 +2,7 @@ package dead
 
 import (
 	"ratline/api"
+	"ratline/blocks"
 	"ratline/live"
 )
 
@@ -28,7 +29,7 @@ func (c *code) tellCopies() {
 		b := &c.Blocks[n]
 		known := newCopies()
 		for k := range b.Ins {
-			known.tell(&b.Ins[k])
+			blocks.Read(&b.Ins[k], known.told)
 			known.pass(b.Ins[k])
 		}
 		known.tellEnd(&b.Term)
@@ -41,19 +42,6 @@ func (c *copies) told(r int) int {
 		return o.register
 	}
 	return r
-}
-
-func (c *copies) tell(i *api.RIns) {
-	switch i.Op {
-	case api.RMov, api.RUn, api.ROut:
-		i.A = c.told(i.A)
-	case api.RBin:
-		i.A, i.B = c.told(i.A), c.told(i.B)
-	case api.RCall, api.RList:
-		for n, r := range i.L {
-			i.L[n] = c.told(r)
-		}
-	}
 }
 
 func (c *copies) tellEnd(t *api.RTerm) {

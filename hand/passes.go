@@ -115,60 +115,105 @@ type Same = func(a, b any) bool
 
 // Touched tells what passes do to the memory of f, or of what they answered, that they may not; "" if nothing.
 func Touched(f api.RFn, same Same, passes ...Pass) string {
-	full, was := Full(f), Everything(Full(f))
-	var first, second []api.RFn
-	for _, p := range passes {
-		first, second = append(first, p(full)), append(second, p(full))
+	return TouchedAll(alone(f), same, mapping(passes)...)
+}
+
+// Unlike tells whether a pass answers f something else when several call at once, or when room stands behind the lists of f.
+func Unlike(f api.RFn, same Same, passes ...Pass) bool {
+	return UnlikeAll(alone(f), same, mapping(passes)...)
+}
+
+// Change makes another program of one.
+type Change = func(api.RProg) api.RProg
+
+func alone(f api.RFn) api.RProg { return api.RProg{Fns: []api.RFn{f}} }
+
+// mapping are passes, each over all functions of a program.
+func mapping(passes []Pass) []Change {
+	l := make([]Change, len(passes))
+	for n, pass := range passes {
+		l[n] = func(p api.RProg) api.RProg { return Mapped(p, pass) }
 	}
-	told := answers(full, passes)
+	return l
+}
+
+// TouchedAll is Touched of a program.
+func TouchedAll(p api.RProg, same Same, changes ...Change) string {
+	full, was := fullProg(p), everythingIn(fullProg(p))
+	first, second := answers(full, changes), answers(full, changes)
+	told := plains(answers(full, changes))
 	switch {
-	case !same(Everything(full), was):
+	case !same(everythingIn(full), was):
 		return "what was handed in is changed"
-	case Shares(first...): // it has written into all of them
+	case Shares(allFns(first)...): // it has written into all of them
 		return "two lists of answers share memory"
-	case !same(Everything(full), was):
+	case !same(everythingIn(full), was):
 		return "an answer shares memory with what was handed in"
 	case !same(plains(second), told):
 		return "two answers share memory"
-	case !same(answers(full, passes), told):
+	case !same(plains(answers(full, changes)), told):
 		return "what was answered is kept"
-	case Shares(append(second, full)...):
+	case Shares(allFns(append(second, full))...):
 		return "two lists share memory"
 	}
 	return ""
 }
 
-// Unlike tells whether a pass answers f something else when several call at once, or when room stands behind the lists of f.
-func Unlike(f api.RFn, same Same, passes ...Pass) bool {
-	told := answers(f, passes)
+// UnlikeAll is Unlike of a program.
+func UnlikeAll(p api.RProg, same Same, changes ...Change) bool {
+	told := plains(answers(p, changes))
 	var seen [4]bool
 	var all sync.WaitGroup
 	for n := range seen {
 		all.Go(func() {
-			g := f
+			q := p
 			if n%2 == 1 {
-				g = Full(f)
+				q = fullProg(p)
 			}
-			seen[n] = same(answers(g, passes), told)
+			seen[n] = same(plains(answers(q, changes)), told)
 		})
 	}
 	all.Wait()
 	return seen != [...]bool{true, true, true, true}
 }
 
-// answers is what passes make of f.
-func answers(f api.RFn, passes []Pass) []api.RFn {
-	l := make([]api.RFn, len(passes))
-	for n, p := range passes {
-		l[n] = p(f)
-	}
-	return plains(l)
+// fullProg is p with room behind all of its lists.
+func fullProg(p api.RProg) api.RProg {
+	p = Mapped(p, Full)
+	p.Fns = WithRoom(p.Fns, Fn(1, 2, Block(Ret(0))))
+	return p
 }
 
-func plains(l []api.RFn) []api.RFn {
-	all := make([]api.RFn, len(l))
-	for n, f := range l {
-		all[n] = Plain(f)
+// everythingIn is all that p has, spare room too, as one list.
+func everythingIn(p api.RProg) []any {
+	l := []any{p.Main, p.Fns[:cap(p.Fns)]}
+	for _, f := range p.Fns {
+		l = append(l, Everything(f)...)
+	}
+	return l
+}
+
+// answers is what changes make of p.
+func answers(p api.RProg, changes []Change) []api.RProg {
+	l := make([]api.RProg, len(changes))
+	for n, change := range changes {
+		l[n] = change(p)
+	}
+	return l
+}
+
+func plains(l []api.RProg) []api.RProg {
+	all := make([]api.RProg, len(l))
+	for n, p := range l {
+		all[n] = Mapped(p, Plain)
+	}
+	return all
+}
+
+func allFns(l []api.RProg) []api.RFn {
+	var all []api.RFn
+	for _, p := range l {
+		all = append(all, p.Fns...)
 	}
 	return all
 }

@@ -128,3 +128,43 @@ func TestUnlike(t *testing.T) {
 		t.Error("alike")
 	}
 }
+
+// A change of a program is held as one of its functions is, and by what it does to the list of them.
+func TestTouchedAll(t *testing.T) {
+	own := func(p api.RProg) api.RProg { return hand.Mapped(p, blocks.Own) }
+	two := api.RProg{Fns: []api.RFn{some(), some()}, Main: 1}
+	if s := hand.TouchedAll(two, reflect.DeepEqual, own, own); s != "" {
+		t.Error(s)
+	}
+	for n, change := range []hand.Change{
+		func(p api.RProg) api.RProg { p.Fns[1].Name = "g"; return own(p) },
+		func(p api.RProg) api.RProg { p.Fns[:3][2].Name = "g"; return own(p) },
+		func(p api.RProg) api.RProg { p.Fns[1] = blocks.Own(p.Fns[1]); p.Fns[0] = own(p).Fns[0]; return p },
+		func(p api.RProg) api.RProg { q := own(p); q.Fns[1] = q.Fns[0]; return q },
+		func(p api.RProg) api.RProg {
+			q := own(p)
+			q.Fns[1].Blocks[0].Ins[0].K = q.Fns[0].Blocks[0].Ins[0].K
+			return q
+		},
+	} {
+		if hand.TouchedAll(two, reflect.DeepEqual, own, change) == "" {
+			t.Error(n)
+		}
+	}
+}
+
+func TestUnlikeAll(t *testing.T) {
+	own := func(p api.RProg) api.RProg { return hand.Mapped(p, blocks.Own) }
+	two := api.RProg{Fns: []api.RFn{some(), some()}, Main: 1}
+	if hand.UnlikeAll(two, reflect.DeepEqual, own, own) {
+		t.Error("unlike")
+	}
+	for n, change := range []hand.Change{
+		func(p api.RProg) api.RProg { p.Main = cap(p.Fns); return p },
+		func(p api.RProg) api.RProg { q := own(p); q.Fns[1].Regs = cap(p.Fns[1].Blocks); return q },
+	} {
+		if !hand.UnlikeAll(two, reflect.DeepEqual, own, change) {
+			t.Error(n, "alike")
+		}
+	}
+}
