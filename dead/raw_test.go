@@ -199,7 +199,7 @@ func TestLongestBlock(t *testing.T) {
 
 // What is far longer than may be ends too.
 func TestTooLong(t *testing.T) {
-	const many = 1 << 18
+	const many = 1 << 16
 	long := list(3, slices.Repeat([]int{1}, 1<<22)...)
 	g := dead.Run(fn(0, 4, block(ret(3), mov(1, 0), long)))
 	if l := g.Blocks[0].Ins; len(l) != 1 || len(l[0].L) != 1<<22 || l[0].L[1<<21] != 0 {

@@ -123,7 +123,7 @@ func TestTheSameIsToldOfLikelyPrograms(t *testing.T) {
 	for range 4000 {
 		expectMeant(t, &n, likely.Registers(r.Intn, 6))
 	}
-	if n.Programs < 2500 || n.Runs < 20000 || n.Ends < 500 || n.Errs < 500 || n.Fuel < 10000 {
+	if n.Programs < 2500 || n.Runs < 12000 || n.Ends < 500 || n.Errs < 500 || n.Fuel < 10000 {
 		t.Error(n)
 	}
 }

@@ -69,13 +69,13 @@ func Others(p api.RProg, passes ...Pass) []api.RProg {
 // Tried counts programs, and their runs by how they ended.
 type Tried struct{ Programs, Runs, Ends, Errs, Fuel int }
 
-// Otherwise runs p, if it is sound, with each fuel below 30, with 100 and with -1, until it ends with fuel left, and tells of the first one of others that is not sound or tells something else; "" if there is none.
+// Otherwise runs p, if it is sound, with fuels that stand ever further apart, and with all, until it ends with fuel left, and tells of the first one of others that is not sound or tells something else; "" if there is none.
 func (n *Tried) Otherwise(p api.RProg, others ...api.RProg) string {
 	if sim.Check(p) != api.OK {
 		return ""
 	}
 	n.Programs++
-	for _, fuel := range append(Upto(30), 100, -1) {
+	for _, fuel := range []int{0, 1, 2, 3, 4, 5, 6, 8, 11, 15, 20, 29, 100, -1} {
 		want, _ := sim.Run(p, fuel)
 		n.count(want.E)
 		for k, q := range others {

@@ -113,7 +113,7 @@ func TestTheSameIsToldOfLikelyPrograms(t *testing.T) {
 		q := inline.Run(p, 14000, 8)
 		opened += left(p.Fns[p.Main]) - left(q.Fns[p.Main])
 	}
-	if n.Programs < 1800 || n.Runs < 10000 || n.Ends < 400 || n.Errs < 400 || n.Fuel < 7000 || opened < 200 {
+	if n.Programs < 1800 || n.Runs < 7000 || n.Ends < 400 || n.Errs < 400 || n.Fuel < 5000 || opened < 200 {
 		t.Error(n, opened)
 	}
 }

@@ -216,7 +216,7 @@ func TestLongestBlocks(t *testing.T) {
 
 // What is far longer than may be ends too.
 func TestTooLong(t *testing.T) {
-	const many = 1 << 18
+	const many = 1 << 16
 	for _, step := range []int{1, many - 1, 77777} {
 		chain := fn(1, 9, hand.Row(many, step, func(_, next int) api.RBlock { return block(jump(next)) })...)
 		if g := thread.Run(chain); thread.Final(chain, 5) != 0 || len(g.Blocks) != 1 || g.Blocks[0].Term != jump(0) {

@@ -223,10 +223,10 @@ func TestAllFourEnds(t *testing.T) {
 	}
 }
 
-// All functions of up to six blocks that have jumps alone, or return, each with an Ins of its own: rows and circles in all orders.
+// All functions of up to five blocks that have jumps alone, or return, each with an Ins of its own: rows and circles in all orders.
 func TestAllRows(t *testing.T) {
 	var n counts
-	for size := 1; size <= 6; size++ {
+	for size := 1; size <= 5; size++ {
 		for k := range int(math.Pow(float64(size+1), float64(size))) {
 			f := fn(1, 9, make([]api.RBlock, size)...)
 			for at := range size {
@@ -239,7 +239,7 @@ func TestAllRows(t *testing.T) {
 			n.expectRead(t, f)
 		}
 	}
-	if n.merged < 100000 || n.gone < 300000 || n.turned != 0 {
+	if n.merged < 10000 || n.gone < 30000 || n.turned != 0 {
 		t.Error(n)
 	}
 }
